@@ -1,0 +1,1 @@
+"""Generic definitions that are chosen by the most special pattern."""

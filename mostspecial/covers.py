@@ -7,13 +7,13 @@ from mostspecial.splits import is_tree, search
 
 def outside(pattern, patterns):
     """A use that a pattern takes and no pattern of a list takes, or None if there is none."""
-    _, use = search(renamed(pattern), list(enumerate(patterns)))
+    _, use = search(renamed(pattern), list(enumerate(patterns)), ())
     return use
 
 
 def cover(pattern, patterns):
     """A tree that shows that each use which a pattern takes is taken by a pattern of a list."""
-    tree, use = search(renamed(pattern), list(enumerate(patterns)))
+    tree, use = search(renamed(pattern), list(enumerate(patterns)), ())
     if use is not None:
         raise NotCovered(use)
     return tree

@@ -11,12 +11,10 @@ SIGNS = {"add": "+", "sub": "-", "mul": "*", "less": "<", "same": "="}
 # How strongly the parts of an expression hold together: where a text has a place for strong ones only,
 # weaker ones stand in brackets. A place of each strength takes what is stronger, too.
 WEAK = 0
-SUM = 1
-PRODUCT = 2
-ATOM = 3
-STRENGTHS = {"if": WEAK, "less": WEAK, "same": WEAK, "add": SUM, "sub": SUM, "mul": PRODUCT}
-# The strengths that the two sides of a sign ask for.
-SIDES = {"add": (SUM, PRODUCT), "sub": (SUM, PRODUCT), "mul": (PRODUCT, ATOM), "less": (SUM, SUM), "same": (SUM, SUM)}
+STRONG = 3
+STRENGTHS = {"if": 0, "less": 0, "same": 0, "add": 1, "sub": 1, "mul": 2}
+# The strengths that the places on the two sides of a sign ask for.
+SIDES = {"add": (1, 2), "sub": (1, 2), "mul": (2, 3), "less": (1, 1), "same": (1, 1)}
 
 
 def inner_of(expression):
@@ -143,12 +141,12 @@ def named_at(text, at, nested):
     if use is not None:
         terms, member, end = use
     if not text.startswith("(", end):
-        return ("name", word) if use is None else ("const", word, terms, member), end
+        return (("name", word) if use is None else ("const", word, terms, member)), end
     found = args_at(text, end, nested)
     if found is None:
         return None
     args, end = found
-    return ("own", word, args) if use is None else ("call", word, terms, member, args), end
+    return (("own", word, args) if use is None else ("call", word, terms, member, args)), end
 
 
 def bracketed_terms_at(text, at):
@@ -194,7 +192,7 @@ def args_at(text, at, nested):
 def write_expression(expression, strength):
     """The text of an expression at a place that takes expressions from a strength on."""
     text = plain_text(expression)
-    return f"({text})" if STRENGTHS.get(expression[0], ATOM) < strength else text
+    return f"({text})" if STRENGTHS.get(expression[0], STRONG) < strength else text
 
 
 def plain_text(expression):

@@ -112,7 +112,7 @@ class Joins:
             return False
         return len(self.below[left]) == len(self.below[right])
 
-    def terms(self, places):
+    def results(self, places):
         """The terms at places, with any names of variables; None if they cannot be made equal."""
         if self.failed:
             return None

@@ -40,7 +40,9 @@ class Fitting:
 
     def bind(self, variable, term):
         """Put a term in place of a variable of the pattern."""
-        if not same_terms(self.binding.setdefault(variable, term), term):
+        if variable not in self.binding:
+            self.binding[variable] = term
+        elif not same_terms(self.binding[variable], term):
             self.failed = True
 
     def need(self, due):

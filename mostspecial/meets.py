@@ -25,5 +25,5 @@ def meet_all(patterns):
         if [kind_of(term) for term in pattern] != kinds:
             return None
         joins.unite(places, joins.laid(pattern))
-    terms = joins.terms(places)
+    terms = joins.results(places)
     return None if terms is None else renamed(terms)

@@ -1,7 +1,7 @@
 """Patterns split into cases, until each case lies within one pattern or a use is found that none takes."""
 
 from mostspecial.matches import Fitting, filled, matching, more_special, put_in_outside, renamed
-from mostspecial.terms import SMALL_LETTERS, head_of, is_whole, named_types, pieces, variables
+from mostspecial.terms import SMALL_LETTERS, head_of, is_whole, named_types, variables
 
 # A split is ("list", v) into the empty list and the lists that have a first item, or ("num", v, k, a) into
 # the numbers below k, one by one, and from k on those of each remainder by a. A list of takers has tuples
@@ -61,37 +61,41 @@ def many_cases(split):
     return 2 if split[0] == "list" else split[2] + split[3]
 
 
-def search(pattern, takers):
-    """A tree for a renamed pattern and takers, and None; or None, and a use that no taker takes."""
+def search(pattern, takers, told):
+    """A tree for a renamed pattern and takers, and None; or None, and a use that no taker takes.
+
+    The names that are told are not among the strange ones in the use.
+    """
     found = [split_toward(pattern, taker) for k, taker in takers]
     for (k, _), split in zip(takers, found):
         if split == ():
             return ("in", k), None
     splits = [split for split in found if split is not None]
     if not splits:
-        return None, far_use(pattern, [taker for k, taker in takers])
+        return None, far_use(pattern, [taker for k, taker in takers], told)
     split = min(splits, key=many_cases)
     trees = []
-    for case in cases(pattern, split):
-        tree, use = search(case, takers)
+    for part in cases(pattern, split):
+        tree, use = search(part, takers, told)
         if use is not None:
             return None, use
         trees.append(tree)
-    return (*split, *trees) if split[0] == "list" else (*split, tuple(trees)), None
+    return ((*split, *trees) if split[0] == "list" else (*split, tuple(trees))), None
 
 
-def far_use(pattern, patterns):
+def far_use(pattern, patterns, told):
     """A use that a pattern takes and none of some patterns, whose numbers and lists are unlike enough.
 
     No pattern lies nearer to any of these by a split: so none of them takes such a use with lists that are
     longer than theirs and end in names of their own, and with numbers that no equation of theirs ties.
     """
-    longest = max([len(piece[1]) for row in patterns for piece in pieces(row) if head_of(piece) == "list"], default=0)
-    used = {name: True for row in [pattern, *patterns] for name, many in named_types(row)}
-    strange = strange_names(used, len(variables(pattern)) * (longest + 1))
+    lists = [term for row in patterns for term in row if head_of(term) == "list"]
+    longest = max([len(term[1]) for term in lists], default=0) + 1
+    standing_names = [name for row in [pattern, *patterns] for name, many in named_types(row)]
+    strange = strange_names([*told, *standing_names], len(variables(pattern)) * longest)
     size = 0
     while True:
-        use = filled(pattern, far_binding(pattern, strange, size, min(size, longest + 1)))
+        use = filled(pattern, far_binding(pattern, strange, size, min(size, longest)))
         if all([matching(row, use) is None for row in patterns]):
             return use
         size += 1
@@ -114,12 +118,13 @@ def far_binding(pattern, strange, size, length):
 
 def strange_names(used, many):
     """As many type names that are not used."""
+    barred = {name: True for name in used}
     found, k = [], 0
     while len(found) < many:
-        name, rest = "S", k
+        name, rest = "Other", k
         while rest > 0:
             name, rest = name + SMALL_LETTERS[rest % 26], rest // 26
-        if name not in used:
+        if name not in barred:
             found.append(name)
         k += 1
     return found

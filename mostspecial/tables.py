@@ -97,10 +97,14 @@ class Table:
                     found.append((i, j, both, below))
         return found
 
+    def search(self, pattern, takers):
+        """A tree and None, or None and a use, for a pattern and some patterns of the table by their indices."""
+        return search(pattern, takers, [name for name, count in self.names.told])
+
     def two_choices(self):
         """A use that some pattern takes and that has no choice, or None."""
         for _, _, both, below in self.pairs():
-            _, use = search(both, below)
+            _, use = self.search(both, below)
             if use is not None:
                 return use
         return None
@@ -109,7 +113,7 @@ class Table:
         """What shows that each use which some pattern takes has a choice."""
         found = []
         for i, j, both, below in self.pairs():
-            tree, use = search(both, below)
+            tree, use = self.search(both, below)
             if use is not None:
                 raise HasTwo(use)
             found.append((i, j, tree))
@@ -120,7 +124,7 @@ class Table:
         found = {}
         for takers, both in self.groups():
             others = [row for row in enumerate(self.patterns) if row[0] not in takers]
-            if self.least_of(takers) is None and search(both, others)[1] is not None:
+            if self.least_of(takers) is None and self.search(both, others)[1] is not None:
                 found[write_terms(both)] = both
         return [found[text] for text in sorted(found)]
 
@@ -143,7 +147,7 @@ class Table:
         for k, pattern in rows:
             # Where patterns that are no less special take a use, this one is not its choice.
             others = [row for row in rows if not more_special(pattern, row[1])]
-            if search(renamed(pattern), others)[1] is None:
+            if self.search(renamed(pattern), others)[1] is None:
                 found.append(k)
         return found
 

@@ -6,19 +6,16 @@ from mostspecial.sources import expression_of, numbers_in, uses_in
 from mostspecial.terms import named_types, plain_kinds, standing
 from mostspecial.termtexts import write_terms
 
-# Each layer is a function of the sources of a program, by their words and in the order of texts, and of the
-# words of its headers. It returns a list of faults, in which some may stand several times.
+# For each layer there is a function of the sources of a program, by their words and in the order of texts. It
+# returns a list of faults, in which some may stand several times. The headers are told by their words.
 
 
 def first_faults(sources, headers):
     """The faults of the first layer that has some, each once, ascending."""
     for source in list(sources.values()):
         source.reach(sources, headers)
-    for layer in (see_faults, telling_faults, fitting_faults, meaning_faults):
-        found = layer(sources, headers)
-        if found:
-            return sorted(set(found))
-    return []
+    found = see_faults(sources, headers) or telling_faults(sources) or fitting_faults(sources, headers)
+    return sorted(set(found or meaning_faults(sources)))
 
 
 def see_faults(sources, headers):
@@ -36,7 +33,7 @@ def may_see(word, other, sources, headers):
     return other in headers and other != word and word not in sources[other].reached
 
 
-def telling_faults(sources, headers):
+def telling_faults(sources):
     """The faults of the second layer."""
     found, told = [], {}
     for word, source in sources.items():
@@ -120,9 +117,10 @@ def has_two_kinds(line, own):
     return any(len(kinds[variable]) > 1 for variable, kind in here)
 
 
-def meaning_faults(sources, headers):
+def meaning_faults(sources):
     """The faults of the fourth layer."""
     found = []
+    told = {word: told_patterns(source) for word, source in sources.items()}
     for word, source in sources.items():
         for number, line in enumerate(source.lines, start=1):
             if line[0] == "print":
@@ -131,7 +129,7 @@ def meaning_faults(sources, headers):
             own = standing(pattern)
             for number, member in enumerate(members, start=first + 1):
                 found.extend([(word, number, what) for what in member_faults(member, own, members)])
-        found.extend(alike_faults(word, source, sources))
+        found.extend(alike_faults(source, sources, told))
     return found
 
 
@@ -176,27 +174,36 @@ def leads_back(line, members):
     return False
 
 
-def alike_faults(word, source, sources):
-    """The faults by alike patterns in the view of a text that no header which it sees has in its view."""
-    groups, found = {}, []
-    for row in [source, *[sources[other] for other in source.reached]]:
-        for number, generic, pattern, _ in row.definitions:
-            key = f"{generic}<{write_terms(renamed(pattern))}>"
-            groups.setdefault(key, []).append((row.word, number))
-    for group in groups.values():
-        for k, one in enumerate(group):
-            for other in group[:k]:
-                if not any(has_both(sources[seen], one[0], other[0]) for seen in source.sees):
-                    found.append((word, later_line(word, one, other), "twice"))
+def told_patterns(source):
+    """For each definition of a text a string that alike patterns of one generic share, and its place."""
+    found = []
+    for number, generic, pattern, _ in source.definitions:
+        found.append((f"{generic}<{write_terms(renamed(pattern))}>", (source.word, number)))
     return found
 
 
-def has_both(header, one, other):
-    """Whether the view of a header has the texts of two words."""
-    words = [header.word, *header.reached]
-    return one in words and other in words
+def alike_faults(source, sources, told):
+    """The faults by alike patterns in the view of a text that no header which it sees has in its view."""
+    groups, found = {}, []
+    for word in [source.word, *source.reached]:
+        for text, place in told[word]:
+            groups.setdefault(text, []).append(place)
+    for group in groups.values():
+        own = [number for word, number in group if word == source.word]
+        others = sorted({word for word, number in group if word != source.word})
+        # No header that a text sees has this text itself in its view, but each has all of its own text.
+        later = own if others else own[1:]
+        if not all_together(source, others, sources):
+            later = [0, *later]
+        found.extend([(source.word, number, "twice") for number in later])
+    return found
 
 
-def later_line(word, one, other):
-    """The number of the later one of two lines that stands in the text of a word, 0 if neither does."""
-    return max([number for place, number in (one, other) if place == word], default=0)
+def all_together(source, words, sources):
+    """Whether for each two texts that a text reaches, a header that it sees has both in its view."""
+    views = [[word, *sources[word].reached] for word in source.sees]
+    for k, one in enumerate(words):
+        for other in words[:k]:
+            if not any(one in row and other in row for row in views):
+                return False
+    return True

@@ -2,21 +2,15 @@
 
 from mostspecial.errors import InvalidBinding
 from mostspecial.progressions import common
-from mostspecial.terms import head_of, same_terms, variables
+from mostspecial.terms import head_of, is_whole, same_terms, variables
 
-# The kinds of terms, by their first items and their numbers of items.
-TUPLE_KINDS = {("type", 3): "type", ("var", 2): "type", ("form", 4): "num", ("list", 3): "types"}
+# The kinds of terms, by what they are at their outside.
+HEAD_KINDS = {"int": "num", "form": "num", "type": "type", "var": "type", "list": "types"}
 
 
-def kind_of(value):
-    """The kind of a term, None for a value that does not look like one at its outside."""
-    if isinstance(value, bool):
-        return None
-    if isinstance(value, int):
-        return "num" if value >= 0 else None
-    if not isinstance(value, tuple) or not value or not isinstance(value[0], str):
-        return None
-    return TUPLE_KINDS.get((value[0], len(value)))
+def kind_of(term):
+    """The kind of a term."""
+    return HEAD_KINDS[head_of(term)]
 
 
 class Fitting:
@@ -121,13 +115,55 @@ def matching(pattern, use):
 def filled(terms, binding):
     """The terms with those of a binding in place of their variables."""
     for variable, kind in variables(terms):
-        if kind_of(binding.get(variable)) != kind:
+        if not is_shaped(binding.get(variable), kind):
             raise InvalidBinding(variable)
+    return put_in_all(terms, binding)
+
+
+def is_shaped(value, kind):
+    """Whether a value has the form of a term of a kind, with any names and of any size."""
+    todo = [(value, kind)]
+    while todo:
+        part, part_kind = todo.pop()
+        inner = types_in(part, part_kind)
+        if inner is None:
+            return False
+        todo.extend([(below, "type") for below in inner])
+    return True
+
+
+def types_in(value, kind):
+    """What must be types in a value for it to have the form of a term of a kind; None if it never has."""
+    if kind == "num":
+        return () if is_number_or_form(value) else None
+    if not isinstance(value, tuple):
+        return None
+    if len(value) == 2:
+        return () if kind == "type" and value[0] == "var" and isinstance(value[1], str) else None
+    if len(value) != 3:
+        return None
+    if kind == "type":
+        return value[2] if value[0] == "type" and isinstance(value[1], str) and isinstance(value[2], tuple) else None
+    fits = value[0] == "list" and (value[2] is None or isinstance(value[2], str))
+    return value[1] if fits and isinstance(value[1], tuple) else None
+
+
+def is_number_or_form(value):
+    """Whether a value has the form of a term of the kind num."""
+    if not isinstance(value, tuple):
+        return is_whole(value) and value >= 0
+    if len(value) != 4 or value[0] != "form" or not isinstance(value[2], str):
+        return False
+    return is_whole(value[1]) and value[1] >= 1 and is_whole(value[3]) and value[3] >= 0
+
+
+def put_in_all(terms, binding):
+    """The terms with those of a binding, which has all that are needed, in place of their variables."""
     return tuple([put_in(term, binding) for term in terms])
 
 
 def put_in(term, binding):
-    """A term with those of a binding, which has all that are needed, in place of its variables."""
+    """A term with those of a binding in place of its variables."""
     # What has been made of the inner types waits in `done` until the type around them is due.
     todo, done = [(term, False)], []
     while todo:
@@ -192,4 +228,4 @@ def renamed(p):
     binding = {}
     for k, (variable, kind) in enumerate(variables(p)):
         binding[variable] = bare(f"v{k}", kind)
-    return filled(p, binding)
+    return put_in_all(p, binding)

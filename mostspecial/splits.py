@@ -1,6 +1,6 @@
 """Patterns split into cases, until each case lies within one pattern or a use is found that none takes."""
 
-from mostspecial.matches import Fitting, filled, matching, more_special, put_in_outside, renamed
+from mostspecial.matches import Fitting, matching, more_special, put_in_all, put_in_outside, renamed
 from mostspecial.terms import SMALL_LETTERS, head_of, is_whole, named_types, variables
 
 # A split is ("list", v) into the empty list and the lists that have a first item, or ("num", v, k, a) into
@@ -95,7 +95,7 @@ def far_use(pattern, patterns, told):
     strange = strange_names([*told, *standing_names], len(variables(pattern)) * longest)
     size = 0
     while True:
-        use = filled(pattern, far_binding(pattern, strange, size, min(size, longest)))
+        use = put_in_all(pattern, far_binding(pattern, strange, size, min(size, longest)))
         if all([matching(row, use) is None for row in patterns]):
             return use
         size += 1

@@ -4,13 +4,18 @@ import random
 import unittest
 
 from mostspecial.errors import InvalidBinding
-from mostspecial.matches import alike, filled, matching, more_special, renamed
+from mostspecial.matches import alike, filled, is_shaped, matching, more_special, renamed
 from mostspecial.terms import variables
 from mostspecial.termtexts import write_terms
-from tests.tools import NarrowStack, deep, raised, random_pattern, random_use, takes, terms, type_of
+from tests.tools import ODD_VALUES, NarrowStack, deep, raised, random_pattern, random_use, takes, terms, type_of
 
 A = type_of("A")
 EMPTY = ("list", (), None)
+# The values among those of a test that have the form of terms of a kind, whatever their names are.
+FITTING = {
+    "type": [A, ("var", "t"), ("var", "T"), ("type", "a", ()), ("type", "B", ()), ("type", "A", (("var", "t"),))],
+    "num": [3, ("form", 1, "m", 0), 10 ** 30], "types": [EMPTY, ("list", (), "R")],
+}
 
 
 def found(pattern, use, kinds):
@@ -145,9 +150,10 @@ class TestFilling(unittest.TestCase):
         self.assertEqual("P<A,A>,(A),6", write_terms(filled(given, right)))
         names = ["a", "b", "c", "r", "n"]
         for k, name in enumerate(names):
-            for wrong in [3, A, EMPTY, None, True, "x", (), [], ("form", 1, "m", 0), ("var", "t")]:
-                fits = wrong in [A, ("var", "t")] if name in "abc" else wrong == EMPTY if name == "r" else \
-                    not isinstance(wrong, bool) and wrong in [3, ("form", 1, "m", 0)]
+            for wrong in [3, A, EMPTY, ("form", 1, "m", 0), ("var", "t"), 10 ** 30] + ODD_VALUES:
+                kind = "type" if name in "abc" else "types" if name == "r" else "num"
+                fits = is_shaped(wrong, kind)
+                self.assertIs(fits, wrong in FITTING[kind] and not isinstance(wrong, bool), wrong)
                 binding = {**right, name: wrong, **{other: None for other in names[k + 1:]}}
                 if fits and k == len(names) - 1:
                     self.assertEqual(3, len(filled(given, binding)))

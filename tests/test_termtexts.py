@@ -22,7 +22,7 @@ TEXTS = [
     ("types", "(P<A,?t>,?t,..?r1)", ("list", (type_of("P", A, T), T), "r1")),
 ]
 WRONG = {
-    "type": """ a b ?T ?1 ? ?abcde ?t> A> <A> A< A<> A<A> B B<> B<A B<A,> B<,A> B<A,A> B<A>> B<A>A B<(A)> B<3> B<#n>
+    "type": """ a b ?T ?1 ? ?abcde ?t> A> <A> A< A<> A<A> B B<> B<A B<A,> B<,A> B<A,A> B<A>> B<A>A B<A) B<A; B<A( B<A. B<?t) P<A,A) P<A,B<A>) B<B<A)> B<(A)> B<3> B<#n>
         Zed<A> P<A> P<A,A,A> P<A;A> P(A,A) AA1 Abcdefghi A,A ?t<A> B<?t<A>> 3 #n () (A) B<..?r> ..?r A. b<A> P<?t,?T>""",
     "num": """01 00 -1 +1 1+1 1* 1*# 1*#n 0*#n 2*n 2#n 2*#n+ 2*#n+0 #n+0 #n+01 #n-1 #n+-1 # #N #1 #abcde 02*#n 2**#n
         2*#n+1+1 #n*2 1+#n #n+#n 2*3 1_0 1.0 1e3 ?t A () \u0663 #\u00e9 #n+\u0663 1000000000000000000000001

@@ -63,7 +63,7 @@ class TestExpressions(Texts):
     def test_wrong_atoms(self):
         for text in """00 01 1_0 -1 +1 1. .1 1x x1 x_y X xX abcdefghi # #N #1 #abcde ?t A A() if then else see const fun for
                 print name gen inner if() go( go) go(,) go(x,) go(,x) go(x y) go(x;y) () (x (x)) x) x( ) one<> one<>. one<>.V
-                one<>.if one<.v one>.v one<A.v one<A>v one<A>..v one<A,>.v one<,A>.v one<a>.v one<A>.v. one<A>.v.w one<A<>>.v
+                one<>.if one<.v one>.v one<A.v one<A>v one<A>..v one<A,>.v one<,A>.v one<a>.v one<B<A)>.v one<B<A;>.v one<A).v one<A>.v. one<A>.v.w one<A<>>.v
                 one<1*#n>.v one<#n+0>.v one<01>.v one<(A,)>.v one<(..?r,A)>.v one<A>.go(x one<A>.abcdefghi One<>.v if<>.v
                 one<x>.v one<1+1>.v one.v x<y<z x=y=z x<y=z x==y x<=y x>y x&y x/y x+ +x x++y x-+y x** *x x- x< <x x= =x x+*y
                 1000000000000000000000001 10000000000000000000000000000000000000000000000000000 \u0663 #n\u0663 \u00e9

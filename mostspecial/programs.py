@@ -14,7 +14,7 @@ class Program:
         for word in sorted([*headers, *units]):
             if not is_word(word) or word in headers and word in units:
                 raise InvalidWord(word)
-        self.headers = tuple(sorted(headers))
+        self.header_words = tuple(sorted(headers))
         self.units = tuple(sorted(units))
         self.sources = {}
         for texts in (headers, units):
@@ -23,7 +23,12 @@ class Program:
                 if wrong:
                     raise InvalidLine((word, wrong))
                 self.sources[word] = Source(word, lines)
-        self.wrong = tuple(first_faults(self.sources, self.headers))
+        self.wrong = tuple(first_faults(self.sources, self.header_words))
+
+    @property
+    def headers(self):
+        """The words of the headers, ascending."""
+        return self.header_words
 
 
 def faults(program):

@@ -10,7 +10,7 @@ ROOT = Path(__file__).parent.parent
 PACKAGE = ROOT / "mostspecial"
 FILES = sorted(PACKAGE.glob("*.py"))
 BUILTINS = set("""len range enumerate zip min max sum abs sorted reversed int str bool bytes list tuple dict set isinstance ord repr
-any all divmod map iter next ValueError""".split())
+any all divmod map iter next ValueError property""".split())
 METHODS = set("""append clear copy count endswith extend find get index insert isalnum isalpha isdigit islower isspace isupper items join
 keys ljust lower lstrip partition pop remove replace reverse rfind rjust rpartition rsplit rstrip setdefault split splitlines startswith
 strip update upper values zfill bit_length add discard""".split())
@@ -21,8 +21,11 @@ INTERFACE = {
     "terms": "is_word is_type_name is_variable Names is_term is_closed is_pattern is_use variables",
     "termtexts": "write_term write_terms read_term read_terms", "matches": "matching filled more_special alike renamed",
     "meets": "meet meet_all meet_forms", "covers": "outside cover is_cover", "tables": "Table is_why_one",
-    "texts": "read_unit write_unit", "programs": "Program faults view prints_in",
+    "texts": "read_unit write_unit", "programs": "Program faults view prints_in", "plain": "plain", "early": "constants",
+    "instances": "asked roots instances", "library": "Library looked",
 }
+# The interface names this argument as it names a function of the file.
+SAME_NAMES = [("instances", "instances", "roots")]
 METHODS_OF = {"Names": ["count_of"], "Table": ["__len__", "takers", "choice", "two_choices", "why_one", "further", "never"]}
 STATEMENTS = (ast.Assign, ast.AugAssign, ast.If, ast.While, ast.For, ast.Return, ast.Break, ast.Continue, ast.Pass, ast.Raise, ast.Delete,
               ast.Expr, ast.FunctionDef, ast.ClassDef, ast.ImportFrom)
@@ -62,7 +65,8 @@ class TestLanguage(unittest.TestCase):
             for node in ast.walk(tree):
                 if isinstance(node, ast.FunctionDef):
                     self.assertLessEqual(node.end_lineno - node.lineno + 1, 40, (name, node.name))
-                    self.assertEqual(([], None), (node.decorator_list, node.returns))
+                    self.assertIn([ast.unparse(part) for part in node.decorator_list], ([], ["property"]))
+                    self.assertIsNone(node.returns)
                     if node.name not in ("__init__", "__len__"):
                         self.assertIsNotNone(ast.get_docstring(node), (name, node.name))
                 self.assertNotIsInstance(node, (ast.Global, ast.AsyncFunctionDef, ast.Lambda, ast.Yield, ast.YieldFrom, ast.NamedExpr, ast.Try))
@@ -127,7 +131,8 @@ class TestLanguage(unittest.TestCase):
                     self.assertFalse(hasattr(builtins, function.name), (name, function.name))
                 for target in targets(function):
                     self.assertRegex(target, "^([A-Za-z][A-Za-z0-9_]*|_)$")
-                    self.assertNotIn(target, fixed, (name, function.name, target))
+                    if (name, function.name, target) not in SAME_NAMES:
+                        self.assertNotIn(target, fixed, (name, function.name, target))
                     self.assertFalse(hasattr(builtins, target), (name, function.name, target))
                     self.assertNotIn(target, BARRED)
             for node in ast.walk(tree):

@@ -1,9 +1,9 @@
 """Libraries: headers, and the views that units may have of them."""
 
+from mostspecial.choices import use_text
 from mostspecial.errors import InvalidLibrary
 from mostspecial.matches import renamed
-from mostspecial.choices import use_text
-from mostspecial.places import definitions_in, looked_at
+from mostspecial.places import definitions_in, shapes_of
 from mostspecial.programs import Program
 
 
@@ -35,7 +35,7 @@ class Library:
         self.generics = [row for word in program.headers for row in self.sources[word].generics]
         self.definitions = definitions_in(self.sources, program.headers)
         self.reached = [self.all_reached(row) for row in self.views]
-        self.looked = looked_at(self.generics, self.definitions)
+        self.shapes = shapes_of(self.generics, self.definitions)
         self.kept = {}
         if not all(self.has_unlike_patterns(k) for k in range(len(self.views))):
             raise InvalidLibrary("twice")
@@ -73,4 +73,4 @@ class Library:
 
 def looked(library, generic):
     """The places of a generic that are looked at."""
-    return list(library.looked.get(generic, []))
+    return list(library.shapes[generic].seen) if generic in library.shapes else []

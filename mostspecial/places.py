@@ -4,8 +4,29 @@ from mostspecial.choices import uses_of_members
 from mostspecial.terms import head_of, standing
 
 
+class Shape:
+    """The places of a generic: `plain` are those that are looked at and no pile, `pile` is that of a pile, or None."""
+
+    def __init__(self, kinds, seen):
+        piles = [place for place, kind in enumerate(kinds) if kind == "pile"]
+        self.kinds = kinds
+        self.seen = seen
+        self.plain = [place for place in seen if place not in piles]
+        self.plain_kinds = [kinds[place] for place in self.plain]
+        self.carried = [place for place in range(len(kinds)) if place not in seen]
+        self.pile = piles[0] if piles else None
+        self.piles = piles
+
+    def pile_of(self, terms):
+        """The list that some terms have at the place of the pile, None if there is no such place."""
+        return None if self.pile is None else terms[self.pile]
+
+
 class Definition:
-    """A definition with its mark; `uses` has what its members ask: tuples (generic, terms, word, many)."""
+    """A definition with its mark; `uses` has what its members ask: tuples (generic, terms, word, many).
+
+    `handed` tells for each of these what is handed on, once it is known which places are looked at.
+    """
 
     def __init__(self, mark, generic, pattern, members):
         self.mark = mark
@@ -14,6 +35,49 @@ class Definition:
         self.members = members
         self.uses = uses_of_members(members)
         self.often = often_in(pattern)
+        self.shape = None
+        self.handed = []
+
+    def settle(self, shapes):
+        """Take the shapes of all generics, by their words."""
+        self.shape = shapes[self.generic]
+        self.handed = [Handed(use, shapes[use[0]], self.own_rest()) for use in self.uses]
+
+    def own_items(self):
+        """The items that the pattern has at its pile."""
+        pile = self.shape.pile_of(self.pattern)
+        return () if pile is None else pile[1]
+
+    def own_rest(self):
+        """The rest that the pattern has at its pile, None if there is none."""
+        pile = self.shape.pile_of(self.pattern)
+        return None if pile is None else pile[2]
+
+
+class Handed:
+    """What an inner use hands on: `plain` at plain places, the items `stack` and the `rest` at a pile.
+
+    `how` is None if its generic has no pile, "laid" if the rest is that of the pile of its definition's
+    pattern, "beside" if it is another one, and "begun" if there is no rest.
+    """
+
+    def __init__(self, use, shape, own_rest):
+        self.generic, self.terms, self.word, self.many = use
+        self.shape = shape
+        self.plain = tuple([self.terms[place] for place in shape.plain])
+        pile = shape.pile_of(self.terms)
+        self.stack = () if pile is None else pile[1]
+        self.rest = None if pile is None else pile[2]
+        if pile is None:
+            self.how = None
+        elif self.rest is None:
+            self.how = "begun"
+        else:
+            self.how = "laid" if self.rest == own_rest else "beside"
+
+    def all_seen(self):
+        """The terms at all places that are looked at."""
+        return [self.terms[place] for place in self.shape.seen]
 
 
 def often_in(terms):
@@ -22,6 +86,15 @@ def often_in(terms):
     for variable, _ in standing(terms):
         many[variable] = many.get(variable, 0) + 1
     return {variable: True for variable in many if many[variable] > 1}
+
+
+def shapes_of(generics, definitions):
+    """The shapes of all generics, by their words; they are told to the definitions, too."""
+    seen = looked_at(generics, definitions)
+    shapes = {word: Shape(kinds, seen[word]) for word, kinds, inner in generics}
+    for definition in definitions:
+        definition.settle(shapes)
+    return shapes
 
 
 def definitions_in(sources, words):

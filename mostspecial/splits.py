@@ -121,13 +121,19 @@ def strange_names(used, many):
     barred = {name: True for name in used}
     found, k = [], 0
     while len(found) < many:
-        name, rest = "Other", k
-        while rest > 0:
-            name, rest = name + SMALL_LETTERS[rest % 26], rest // 26
+        name = strange_name(k)
         if name not in barred:
             found.append(name)
         k += 1
     return found
+
+
+def strange_name(k):
+    """A type name, another one for each number from 0 on."""
+    name = "Other"
+    while k > 0:
+        name, k = name + SMALL_LETTERS[k % 26], k // 26
+    return name
 
 
 def is_tree(pattern, takers, value):

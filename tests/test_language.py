@@ -10,7 +10,7 @@ ROOT = Path(__file__).parent.parent
 PACKAGE = ROOT / "mostspecial"
 FILES = sorted(PACKAGE.glob("*.py"))
 BUILTINS = set("""len range enumerate zip min max sum abs sorted reversed int str bool bytes list tuple dict set isinstance ord repr
-any all divmod map iter next ValueError property""".split())
+any all divmod map iter next ValueError RuntimeError property""".split())
 METHODS = set("""append clear copy count endswith extend find get index insert isalnum isalpha isdigit islower isspace isupper items join
 keys ljust lower lstrip partition pop remove replace reverse rfind rjust rpartition rsplit rstrip setdefault split splitlines startswith
 strip update upper values zfill bit_length add discard""".split())
@@ -22,10 +22,12 @@ INTERFACE = {
     "termtexts": "write_term write_terms read_term read_terms", "matches": "matching filled more_special alike renamed",
     "meets": "meet meet_all meet_forms", "covers": "outside cover is_cover", "tables": "Table is_why_one",
     "texts": "read_unit write_unit", "programs": "Program faults view prints_in", "plain": "plain", "early": "constants",
-    "instances": "asked roots instances", "library": "Library looked",
+    "instances": "asked roots instances", "library": "Library looked", "apart": "apart",
+    "sights": "looks measure sight sights term_of single", "steps": "sort_of is_sort outcomes asks", "table": "sorts met road",
+    "rows": "bad least_names dead chooser needed",
 }
 # The interface names this argument as it names a function of the file.
-SAME_NAMES = [("instances", "instances", "roots")]
+SAME_NAMES = [("instances", "instances", "roots"), ("sights", "term_of", "sight"), ("sights", "single", "sight")]
 METHODS_OF = {"Names": ["count_of"], "Table": ["__len__", "takers", "choice", "two_choices", "why_one", "further", "never"]}
 STATEMENTS = (ast.Assign, ast.AugAssign, ast.If, ast.While, ast.For, ast.Return, ast.Break, ast.Continue, ast.Pass, ast.Raise, ast.Delete,
               ast.Expr, ast.FunctionDef, ast.ClassDef, ast.ImportFrom)
@@ -107,7 +109,7 @@ class TestLanguage(unittest.TestCase):
                     continue
                 for alias in node.names:
                     self.assertIn(alias.name, used, (name, alias.name))
-                if node.module == "math":
+                if node.module in ("math", "heapq"):
                     continue
                 self.assertEqual("mostspecial", node.module.split(".")[0])
                 other = node.module.split(".")[1]

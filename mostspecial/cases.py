@@ -98,15 +98,16 @@ class Case:
             tables.append([row for row in table.get(sight, []) if agree(row[0], fixed)])
         found = []
         for binding, _ in self.joined(tables):
-            others = [variable for variable in binding if variable not in fixed]
-            found.append((binding, sum([self.many[variable] * self.cost_of(variable, binding) for variable in others])))
+            costs = [self.many[row] * self.cost_of(row, binding) for row in binding if row not in fixed]
+            found.append((binding, sum(costs)))
         return sorted(found, key=row_cost)
 
     def joined(self, tables):
         """The rows of all parts together, in which a variable that stands in several of them has one sight."""
         found = [({}, 0)]
         for rows in tables:
-            found = [({**one, **other}, cost + more) for one, cost in found for other, more in rows if agree(one, other)]
+            pairs = [(one, other) for one in found for other in rows if agree(one[0], other[0])]
+            found = [({**one, **other}, cost + more) for (one, cost), (other, more) in pairs]
         return found
 
 

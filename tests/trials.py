@@ -196,6 +196,14 @@ class World:
             return not any(member[:2] == ("const", word) for member in row[3])
         return not any(member[:2] == ("fun", word) and len(member[2]) == many for member in row[3])
 
+    def wrong(self, row):
+        """What is wrong with a use that lies behind an open use, told as `behind` does, or None."""
+        _, generic, terms, word, many = row
+        choice = self.choice(generic, terms)
+        if isinstance(choice, str):
+            return choice
+        return "lacks" if word is not None and self.lacks(choice, word, many) else None
+
     def behind(self, generic, terms, most, width=400):
         """The tuples (asks, generic, terms, word, many) of what lies behind an open use, up to so many asks."""
         level = {(generic, write_terms(terms), None, None): (generic, terms, None, None)}
@@ -211,3 +219,71 @@ class World:
                     following[(other, write_terms(new), asked, args)] = (other, new, asked, args)
             level = dict(list(following.items())[:width])
         return found
+
+
+def random_terms(world, generic, chance, depth=3):
+    """The terms of a use of a view by a source of chance."""
+    types = world.types(depth)
+    found = []
+    for kind in world.kinds[generic]:
+        if kind == "type":
+            found.append(chance.choice(types))
+        elif kind == "num":
+            found.append(chance.randrange(14))
+        else:
+            found.append(("list", tuple(chance.choice(types[:14]) for _ in range(chance.randrange(4))), None))
+    return tuple(found)
+
+
+def count_of(library, generic, terms):
+    """What counts of a use."""
+    shape = library.shapes[generic]
+    pile = shape.pile_of(terms)
+    return generic, tuple(terms[place] for place in shape.plain), None if pile is None else pile[1][:1]
+
+
+def names_of(library, generic, terms):
+    """How many type names stand where a use is looked at."""
+    text = repr([terms[place] for place in library.shapes[generic].seen])
+    return text.count("'type'")
+
+
+def types_with_names(world, most):
+    """The types of a view, with two strange names, by the number of names that stand in them."""
+    found = {}
+    for many in range(1, most + 1):
+        found[many] = []
+        for name, count in [*world.names.items(), ("Zed", 0), ("Zod", 0)]:
+            if count == 0 and many == 1:
+                found[many].append(type_of(name))
+            elif count == 1 and many > 1:
+                found[many].extend(type_of(name, one) for one in found[many - 1])
+            elif count == 2:
+                found[many].extend(type_of(name, one, other) for k in range(1, many - 1) for one in found[k] for other in found[many - 1 - k])
+    return found
+
+
+def lists_with_names(types, many):
+    """The tuples of types in which as many names stand."""
+    if many == 0:
+        return [()]
+    return [(one, *behind) for k in range(1, many + 1) for one in types[k] for behind in lists_with_names(types, many - k)]
+
+
+def uses_with_names(world, library, generic, many):
+    """The uses of a generic with as many type names where it is looked at, with small numbers."""
+    types = types_with_names(world, many)
+    rows = [((), many)]
+    for place, kind in enumerate(world.kinds[generic]):
+        more = []
+        for terms, left in rows:
+            if place not in library.shapes[generic].seen:
+                more.append(((*terms, {"type": type_of("Zid"), "num": 0, "types": ("list", (), None)}[kind]), left))
+            elif kind == "num":
+                more.extend(((*terms, number), left) for number in range(14))
+            elif kind == "type":
+                more.extend(((*terms, one), left - k) for k in range(1, left + 1) for one in types[k])
+            else:
+                more.extend(((*terms, ("list", items, None)), left - k) for k in range(left + 1) for items in lists_with_names(types, k))
+        rows = more
+    return [terms for terms, left in rows if left == 0]

@@ -65,7 +65,7 @@ class Backward:
                 return None
             fixed[handed.rest] = rest
         laid = below if handed.how == "laid" else Goal((), (), False)
-        return self.with_terms(case, sort, fixed, laid)
+        return self.with_terms(case, handed, (sort, ask), fixed, laid)
 
     def list_of(self, sight, below):
         """A list of a sight that begins with the items of a goal, and has no more if it is shut, or None."""
@@ -80,12 +80,16 @@ class Backward:
         rest = () if below.shut else samples.closed("types", min(rows)[1], self.fresh)[1]
         return ("list", (*below.stack, *rest), None)
 
-    def with_terms(self, case, sort, fixed, laid):
-        """What a use of a sort must have that a case is the choice of, by some terms of its pattern's variables."""
+    def with_terms(self, case, handed, step, fixed, laid):
+        """What a use must have to go a step by an inner use of a case, with some terms of its pattern's variables."""
+        sort, ask = step
         sights = {}
         for variable, term in fixed.items():
             sights[variable] = self.scope.eyes.sight_of(case.kinds[variable], term, {})
         for binding, _ in case.rows_with(sort, sights):
+            # The steps before this one have been found for just this ask, not for any one that leads to the goal.
+            if self.grouping.ask_of(case, sort, handed, binding) != ask:
+                continue
             terms = dict(fixed)
             for variable, sight in binding.items():
                 if variable not in fixed:

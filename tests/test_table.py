@@ -5,7 +5,7 @@ import unittest
 
 from mostspecial.errors import InvalidUse, NotMet, TooLong
 from mostspecial.library import Library
-from mostspecial.sights import sight
+from mostspecial.sights import term_of
 from mostspecial.steps import is_sort, sort_of
 from mostspecial.table import met, road, sorts
 from mostspecial.terms import Names
@@ -148,6 +148,41 @@ class TestPiles(Roads):
         self.road(given, "run", "1,()", None)
         self.road(given, "two", "()", 5)
         self.road(given, "run", "3,()", 6)
+
+
+    def test_inner_uses_of_one_definition_that_ask_for_one_word(self):
+        # The road to run<B<A>,(A)> and no more items goes by the first inner use; the second one leads there, too,
+        # but from uses with other piles.
+        given = library("gen start<>", "inner gen run<type,pile>", "for start<>", "  const v = run<B<A>,(B<A>,A)>.v", "for run<B<?s>,(?x,..?r)>",
+                        "  const v = run<?x,(?s,..?r)>.v+run<?x,(..?r)>.v", "for run<A,()>", "for run<?t,()>", "for run<A,(?x,..?r)>", "for run<P<A,A>,(?x,..?r)>")
+        self.road(given, "run", "B<A>,(A,A)", 2)
+        self.road(given, "run", "A,()", 3)
+        rows = ["inner gen f<num,types>", "inner gen g<pile,type>", "gen h<type,types>", "for f<#n1,(?t2)>", "  const v = 1+g<(?t2,A),B<A>>.v", "  fun go(x) = 1",
+                "  const w = 1+g<(?t2),B<B<A>>>.w", "for f<2*#n3,(A,..?r4)>", "  fun go(x) = 1+h<A,(..?r4)>.w+h<B<B<A>>,(..?r4)>.go(x)", "  const w = 1+h<A,(..?r4)>.v",
+                "for g<(?t5,..?r6),B<?t7>>", "  const v = 1+h<B<A>,(B<A>,A)>.w", "  fun go(x) = 1+g<(..?r6),?t5>.go(1)+g<(?t7,..?r6),?t5>.go(x)",
+                "  const w = 1+g<(?t5,B<?t7>,..?r6),P<A,A>>.v", "for g<(),?t8>", "  const v = 1+f<1,(B<A>,A)>.v", "  fun go(x) = 1+h<B<A>,(B<A>,A)>.go(x)",
+                "  const w = 1+f<1,(B<A>,A)>.v", "for g<(A,..?r9),A>", "  fun go(x) = 1+h<A,(A)>.v", "for h<?t10,(A,..?r11)>", "  fun go(x) = 1+h<A,(A,..?r11)>.go(x)",
+                "  const w = 1+h<?t10,()>.v", "for h<?t12,(?t13,..?r14)>", "  const v = 1+f<3,()>.w", "  const w = 1+f<3,(?t13,..?r14)>.w", "for h<B<?t15>,(?t16)>",
+                "  const v = 1+f<2,()>.w+f<0,(B<A>,A)>.v", "  fun go(x) = 1+g<(?t15),?t16>.w", "  const w = 1+g<(),?t15>.v"]
+        given = library(*rows)
+        for sort in sorts(given, 0):
+            terms = use_of_sort(given, sort)
+            self.road(given, sort[0], terms, road(given, 0, sort[0], terms)[0])
+
+
+def use_of_sort(given, sort):
+    """The terms of a use of a sort, with carried places of no matter."""
+    generic, plain, first = sort
+    left = list(plain)[::-1]
+    found = []
+    for place, kind in enumerate(given.shapes[generic].kinds):
+        if kind == "pile":
+            found.append(("list", () if first == "()" else (term_of(given, 0, "type", first),), None))
+        elif place in given.shapes[generic].seen:
+            found.append(term_of(given, 0, kind, left.pop()))
+        else:
+            found.append({"type": A, "num": 0, "types": EMPTY}[kind])
+    return tuple(found)
 
 
 class TestErrors(unittest.TestCase):

@@ -18,13 +18,16 @@ def told_apart(sights, looks):
 
 def named_sights(eyes, name, count, known):
     """The sights of types with a name, by those that are known for its args."""
-    heads = [looks for k, looks in eyes.by_name.get(name, []) if len(looks) == count]
-    # Sights with the same looks at an arg are not told apart there, so one of them is enough.
-    args = [told_apart(known, [looks[k] for looks in heads]) for k in range(count)]
-    rows = [()]
-    for arg in args:
-        rows = [(*row, sight) for row in rows for sight in arg]
-    return [eyes.type_sight(name, row) for row in rows]
+    alive = [[row for row in eyes.by_name.get(name, []) if len(row[1]) == count]]
+    for k in range(count):
+        found = {}
+        for rows in alive:
+            # Sights with the same looks at an arg are not told apart there, so one of them is enough.
+            for sight in told_apart(known, [looks[k] for _, looks in rows]):
+                left = [row for row in rows if row[1][k] in sight]
+                found[tuple([look for look, _ in left])] = left
+        alive = list(found.values())
+    return [tuple(sorted([*eyes.anything, *[look for look, _ in rows]])) for rows in alive]
 
 
 def type_sights(eyes, names, most):

@@ -2,9 +2,9 @@
 
 from mostspecial.apart import check_view
 from mostspecial.backs import goal_of, open_use
-from mostspecial.errors import InvalidUse, NotMet, TooLong
+from mostspecial.errors import NotMet, TooLong
 from mostspecial.flows import flow_of
-from mostspecial.scopes import scope_of
+from mostspecial.steps import sort_of
 
 MOST_ASKS = 30
 
@@ -15,23 +15,14 @@ def sorts(library, k):
     return list(flow_of(library, k, False).first)
 
 
-def checked_sort(library, k, generic, terms):
-    """The sort of a use; it raises InvalidUse."""
-    check_view(library, k)
-    scope = scope_of(library, k)
-    if not scope.is_use(generic, terms):
-        raise InvalidUse((generic, terms))
-    return scope.sort_of(generic, terms)
-
-
 def met(library, k, generic, terms):
     """Whether a use is met in a view."""
-    return checked_sort(library, k, generic, terms) in flow_of(library, k, False).first
+    return sort_of(library, k, generic, terms) in flow_of(library, k, False).first
 
 
 def road(library, k, generic, terms):
     """The least number of asks behind which what counts of a use lies, and an open use behind which it does."""
-    sort = checked_sort(library, k, generic, terms)
+    sort = sort_of(library, k, generic, terms)
     flow = flow_of(library, k, False)
     if sort not in flow.first:
         raise NotMet(generic, terms)

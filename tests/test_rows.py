@@ -9,7 +9,8 @@ from mostspecial.library import Library
 from mostspecial.matches import alike, matching, more_special, renamed
 from mostspecial.meets import meet_all
 from mostspecial.rows import bad, chooser, dead, least_names, needed
-from mostspecial.steps import outcomes, sort_of
+from mostspecial.sights import sights, term_of
+from mostspecial.steps import asks, outcomes, sort_of
 from mostspecial.table import sorts
 from mostspecial.terms import Names
 from mostspecial.termtexts import read_terms, write_terms
@@ -222,6 +223,26 @@ class TestNeeded(Rows):
     def test_piles_and_carried_places(self):
         rows = ["gen f<pile,type,num>", "for f<(A,..?r),?t,#n>", "for f<(..?r),?t,0>", "for f<(..?r),?t,#n>"]
         self.needed(library(*rows), [("f", "(A,..?v0),?v1,0")])
+
+
+class TestEqualAnswers(unittest.TestCase):
+    def answers(self, given):
+        """The answers of all functions that may choose among right ones."""
+        found = []
+        for k in range(len(given.views)):
+            found.extend([bad(given, k), least_names(given, k), dead(given, k), needed(given, k), sorts(given, k)])
+            found.extend(chooser(given, k, row.mark) for row in given.definitions_of(k) if row.mark not in dead(given, k))
+            for sort in sorts(given, k)[:10]:
+                found.extend([outcomes(given, k, sort), asks(given, k, sort), [term_of(given, k, "type", row) for row in sights(given, k, "type")]])
+        return found
+
+    def test_behind_calls_with_other_libraries(self):
+        chance = random.Random(21)
+        given = [random_library(chance) for _ in range(8)]
+        first = [self.answers(one) for one in given]
+        self.assertEqual(first, [self.answers(one) for one in given])
+        again = [Library(dict(list(one.headers.items())[::-1]), list(one.views)) for one in given[::-1]]
+        self.assertEqual(first[::-1], [self.answers(one) for one in again])
 
 
 class TestByOwnTrial(Rows):

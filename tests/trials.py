@@ -22,8 +22,9 @@ CLOSED = {"type": ["A", "B<A>", "P<A,A>", "B<B<A>>"], "num": ["0", "1", "2", "3"
 class Maker:
     """What makes one library."""
 
-    def __init__(self, chance, often=0.15, inner=0.5):
+    def __init__(self, chance, often=0.15, inner=0.5, kinds=("type", "type", "num", "types", "pile", "type")):
         self.chance = chance
+        self.place_kinds = kinds
         self.often = often
         self.inner = inner
         self.many = 0
@@ -54,7 +55,7 @@ class Maker:
         return found
 
     def generic(self, word):
-        kinds = [self.pick(["type", "type", "num", "types", "pile", "type"]) for _ in range(self.pick([0, 1, 1, 2, 2, 2, 3]))]
+        kinds = [self.pick(self.place_kinds) for _ in range(self.pick([0, 1, 1, 2, 2, 2, 3]))]
         while kinds.count("pile") > 1:
             kinds.remove("pile")
         return word, kinds, self.chance.random() < self.inner

@@ -59,9 +59,9 @@ class Counts:
 class Chosen:
     """A use with its choice: `binding` has the use's terms in place of the variables of the choice's pattern."""
 
-    def __init__(self, use, definition, binding):
+    def __init__(self, text, use, definition, binding):
+        self.text = text
         self.generic, self.terms = use
-        self.text = use_text(self.generic, self.terms)
         self.mark = definition[0]
         self.members = definition[3]
         self.binding = binding
@@ -76,12 +76,12 @@ class Chosen:
         return word in self.constants if many == -1 else (word, many) in self.functions
 
     def asked(self):
-        """What the members ask: tuples (generic, terms, word, many)."""
+        """What the members ask: tuples (generic, terms, word, many), each by (text, word, many) with its use's text."""
         found = {}
         for generic, terms, word, many in uses_of_members(self.members):
             new = put_in_all(terms, self.binding)
             found.setdefault((use_text(generic, new), word, many), (generic, new, word, many))
-        return list(found.values())
+        return found
 
 
 class Choices:
@@ -114,12 +114,15 @@ class Choices:
 
     def choice(self, generic, terms):
         """A use with its choice; it raises NoChoice and TwoChoices."""
-        text = use_text(generic, terms)
+        return self.choice_by_text(use_text(generic, terms), generic, terms)
+
+    def choice_by_text(self, text, generic, terms):
+        """A use with its choice, by the text of the use, which takes long to write where a use is great."""
         if text not in self.chosen:
-            self.chosen[text] = self.find_choice(generic, terms)
+            self.chosen[text] = self.find_choice(text, generic, terms)
         return self.chosen[text]
 
-    def find_choice(self, generic, terms):
+    def find_choice(self, text, generic, terms):
         """A use with its choice, reckoned anew."""
         takers = []
         for definition in self.definitions[generic]:
@@ -130,7 +133,7 @@ class Choices:
             raise NoChoice(generic, terms)
         for definition, binding in takers:
             if all([more_special(definition[2], other[2]) for other, bound in takers]):
-                return Chosen((generic, terms), definition, binding)
+                return Chosen(text, (generic, terms), definition, binding)
         raise TwoChoices(generic, terms)
 
 

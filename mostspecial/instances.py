@@ -9,20 +9,20 @@ def asked(program, word, generic, terms):
     """What the members of a use's choice ask in the view of a text."""
     choices = choices_in(program, word)
     choices.check_use(generic, terms)
-    return choices.choice(generic, terms).asked()
+    return list(choices.choice(generic, terms).asked().values())
 
 
 def roots(program, word):
     """The uses that the prints of a text ask, each once, in their order."""
-    return once([asking[:2] for asking in uses_of(prints_in(program, word))])
+    return list(once([asking[:2] for asking in uses_of(prints_in(program, word))]).values())
 
 
 def once(uses):
-    """Uses, each once, in the order in which they first stand."""
+    """Uses by their texts, in the order in which they first stand."""
     found = {}
     for generic, terms in uses:
         found.setdefault(use_text(generic, terms), (generic, terms))
-    return list(found.values())
+    return found
 
 
 def are_roots(value, choices):
@@ -36,36 +36,38 @@ def are_roots(value, choices):
 
 
 class Made:
-    """The list of the uses that are made, as it grows."""
+    """The uses that are made, by their texts, as they come to be more."""
 
     def __init__(self, choices, uses, most):
         self.choices = choices
         self.most = most
         self.uses = uses
-        self.known = {use_text(generic, terms): True for generic, terms in uses}
+        self.texts = list(uses)
 
     def rows(self):
         """The tuples (generic, terms, mark) of all uses that are made."""
         found = []
-        while len(found) < len(self.uses):
-            generic, terms = self.uses[len(found)]
-            chosen = self.choices.choice(generic, terms)
+        while len(found) < len(self.texts):
+            text = self.texts[len(found)]
+            generic, terms = self.uses[text]
+            chosen = self.choices.choice_by_text(text, generic, terms)
             found.append((generic, terms, chosen.mark))
-            for asking in chosen.asked():
-                self.add_asked(*asking)
+            for key, asking in chosen.asked().items():
+                self.add_asked(key[0], asking)
         return found
 
-    def add_asked(self, generic, terms, word, many):
+    def add_asked(self, text, asking):
         """Make a use that is asked, unless it has been made."""
-        text = use_text(generic, terms)
-        if text not in self.known and len(self.uses) == self.most:
-            raise TooMany(self.most)
-        self.choices.check_size(generic, terms)
-        if not self.choices.choice(generic, terms).has(word, many):
+        generic, terms, word, many = asking
+        if text not in self.uses:
+            if len(self.texts) == self.most:
+                raise TooMany(self.most)
+            self.choices.check_size(generic, terms)
+        if not self.choices.choice_by_text(text, generic, terms).has(word, many):
             raise Lacks(generic, terms, word, many)
-        if text not in self.known:
-            self.known[text] = True
-            self.uses.append((generic, terms))
+        if text not in self.uses:
+            self.uses[text] = (generic, terms)
+            self.texts.append(text)
 
 
 def instances(program, word, roots, most):

@@ -15,7 +15,7 @@ from mostspecial.table import sorts
 from mostspecial.terms import Names
 from mostspecial.termtexts import read_terms, write_terms
 from tests.tools import ODD_VALUES, raised, told, type_of
-from tests.trials import World, names_of, random_library, random_terms, uses_with_names
+from tests.trials import MachineMaker, World, names_of, random_library, random_terms, uses_with_names
 
 NAMES = "name A 0\nname B 1\nname P 2"
 TERM_NAMES = Names([("A", 0), ("B", 1), ("P", 2)])
@@ -253,6 +253,12 @@ class TestByOwnTrial(Rows):
                 given = random_library(chance, often=often, inner=inner)
                 for k in range(2):
                     self.check_view(given, k, chance)
+
+    def test_random_machines(self):
+        chance = random.Random(9)
+        for often in [0, 0.2]:
+            for _ in range(40):
+                self.check_view(random_library(chance, maker=MachineMaker, often=often), 0, chance)
 
     def check_view(self, given, k, chance):
         world = World(given, k)

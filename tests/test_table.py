@@ -11,7 +11,7 @@ from mostspecial.table import met, road, sorts
 from mostspecial.terms import Names
 from mostspecial.termtexts import read_terms
 from tests.tools import NarrowStack, ODD_VALUES, deep, raised, told, type_of
-from tests.trials import World, count_of, random_library, random_terms
+from tests.trials import MachineMaker, World, count_of, random_library, random_terms
 
 NAMES = "name A 0\nname B 1\nname P 2"
 TERM_NAMES = Names([("A", 0), ("B", 1), ("P", 2)])
@@ -221,6 +221,12 @@ class TestByOwnTrial(Roads):
                 given = random_library(chance, often=often, inner=inner)
                 for k in range(2):
                     self.check_view(given, k, chance)
+
+    def test_random_machines(self):
+        chance = random.Random(4)
+        for often in [0, 0.2]:
+            for _ in range(40):
+                self.check_view(random_library(chance, maker=MachineMaker, often=often), 0, chance)
 
     def check_view(self, given, k, chance):
         world = World(given, k)

@@ -132,10 +132,10 @@ class Maker:
         return headers, [("base",), ("more",)]
 
 
-def random_library(chance, tries=400, **more):
+def random_library(chance, tries=400, maker=None, **more):
     """A library that takes apart."""
     for _ in range(tries):
-        headers, views = Maker(chance, **more).library()
+        headers, views = (maker or Maker)(chance, **more).library()
         try:
             library = Library(headers, views)
         except ValueError:
@@ -143,6 +143,54 @@ def random_library(chance, tries=400, **more):
         if apart(library) is None:
             return library
     return None
+
+
+class MachineMaker(Maker):
+    """What makes libraries with one pile that is worked off, so that uses go badly behind more asks."""
+
+    STARTS = {"type": ["?", "?", "B<?>", "A"], "types": ["(..)", "(?,..)", "(A,..)"], "num": ["#", "#+1"], "pile": ["(..)", "(?,..)", "()"]}
+    STATES = {"num": ["0", "1", "2", "#", "#+1", "2*#", "2*#+1"], "type": ["A", "B<?>", "B<A>", "?", "P<?,?>", "B<B<?>>"]}
+    PILES = ["(A,..)", "(B<?>,..)", "(?,..)", "()", "(P<?,?>,..)"]
+
+    def filled(self, text, own):
+        """A text of a pattern with variables at their places."""
+        found = ""
+        for k, sign in enumerate(text):
+            found += sign
+            if sign == "?":
+                found += self.variable("type", own)
+            elif sign == "#":
+                found += self.variable("num", own)
+            elif text[k - 1:k + 1] == "..":
+                found += "?" + self.variable("types", own)
+        return found
+
+    def asking(self, generic, texts, targets):
+        """The lines of a definition that asks one or two uses for v, and has mostly v itself."""
+        word, kinds, _ = generic
+        own = {"type": [], "num": [], "types": []}
+        pattern = [self.filled(text, own) for text in texts]
+        parts = self.parts(pattern, kinds)
+        uses = [self.inner_use(targets, parts) for _ in range(self.pick([1, 1, 1, 2]))]
+        member = "w" if self.chance.random() < 0.06 else "v"
+        return [f"for {word}<{','.join(pattern)}>", f"  const {member} = 1" + "".join(f"+{use}.v" for use in uses)]
+
+    def library(self):
+        start = ("start", self.pick([["type"], ["types"], ["type", "type"], ["pile", "type"], ["types", "num"], []]), False)
+        run = ("run", [self.pick(["num", "type"]), "pile"], True)
+        end = ("end", [self.pick(["num", "type"])], True)
+        bare = {"num": "#n", "type": "?t"}
+        base = ["name A 0", "name B 1", "name P 2"]
+        base += [f"{'inner ' if inner else ''}gen {word}<{','.join(kinds)}>" for word, kinds, inner in (start, run, end)]
+        base += [f"for run<{bare[run[1][0]]},(..?r)>", "  const v = 1", f"for end<{bare[end[1][0]]}>", "  const v = 1"]
+        base += self.asking(start, [self.STARTS[kind][0] for kind in start[1]], [run])
+        for _ in range(self.pick([0, 1, 2])):
+            base += self.asking(start, [self.pick(self.STARTS[kind]) for kind in start[1]], [run])
+        for _ in range(self.pick([3, 4, 5, 6])):
+            base += self.asking(run, [self.pick(self.STATES[run[1][0]]), self.pick(self.PILES)], [run, run, run, end])
+        for _ in range(self.pick([0, 1, 2])):
+            base += self.asking(end, [self.pick(self.STATES[end[1][0]])], [run, end])
+        return {"base": "\n".join(base), "more": "see base\nname C 0"}, [("base",), ("more",)]
 
 
 class World:

@@ -1,7 +1,7 @@
 """Open uses behind which a given use lies, made step by step from this one back."""
 
 from mostspecial.matches import fitted, matching, put_in_all
-from mostspecial.samples import Fresh
+from mostspecial.samples import Fresh, count_names
 from mostspecial.scopes import header_names
 from mostspecial.terms import named_types
 
@@ -34,16 +34,18 @@ class Backward:
         return goal
 
     def step_back(self, sort, ask, goal):
-        """What a use of a sort must have that asks for a goal."""
+        """What a use of a sort must have that asks for a goal, with as few type names as any."""
         mark, generic, _, _, word, many = ask
-        for case in self.grouping.cases[sort[0]]:
-            if case.mark == mark:
-                for handed in case.definition.handed:
-                    if (handed.generic, handed.word, handed.many) == (generic, word, many):
-                        found = self.asking(case, handed, sort, ask, goal)
-                        if found is not None:
-                            return found
-        raise RuntimeError("each step that leads somewhere can be gone back")
+        case = [row for row in self.grouping.cases[sort[0]] if row.mark == mark][0]
+        rows = []
+        for handed in case.definition.handed:
+            if (handed.generic, handed.word, handed.many) == (generic, word, many):
+                rows.append(self.asking(case, handed, sort, ask, goal))
+        found = [row for row in rows if row is not None]
+        if not found:
+            raise RuntimeError("each step that leads somewhere can be gone back")
+        names = [count_names([*row.terms, *row.stack]) for row in found]
+        return found[names.index(min(names))]
 
     def asking(self, case, handed, sort, ask, goal):
         """What a use of a sort must have whose choice asks for a goal by an inner use, or None."""

@@ -1,14 +1,15 @@
 """Which sorts are met in a view, with as few asks, or type names, as may be."""
 
 from mostspecial.groups import groups_of
-from mostspecial.ways import Queue, Ways
+from mostspecial.ways import Queue, Ways, together
 
 
 class Flow:
     """The sorts that are met: `costs` has the least cost for each fact, `first` the first fact for each sort.
 
-    The cost is the number of asks. If it goes by names, it is the least number of type names that stand where
-    an open use is looked at, if what is met has no more of them than any use of its sort needs.
+    A cost is a tuple of the number of asks behind an open use, and of the least number of type names that stand
+    where such a use is looked at, if what is met has no more of them than any use of its sort needs. So the open
+    uses that are told are small. If it goes by names, the cost is a tuple of the number of names and 0.
 
     A fact is a tuple of one of these forms, in which asked is None or the word and the number that are asked
     last, and a control is a tuple of a generic and sights:
@@ -23,7 +24,6 @@ class Flow:
         self.grouping = groups_of(library, k)
         self.scope = self.grouping.scope
         self.ways = Ways(self.grouping, by_names)
-        self.by_names = by_names
         self.queue = Queue()
         self.costs = {}
         self.origin = {}
@@ -48,13 +48,13 @@ class Flow:
         return found
 
     def price(self, kind, sight):
-        """What a term of a sight costs."""
-        return self.scope.samples.cost(kind, sight) if self.by_names else 0
+        """The least number of type names in a term of a sight."""
+        return self.scope.samples.cost(kind, sight)
 
     def begin(self, generic):
         """Add the open uses of a generic."""
         for plain in self.scope.rows_of_sights(generic):
-            cost = self.scope.cost(generic, plain, []) if self.by_names else 0
+            cost = self.ways.names_cost(self.scope.cost(generic, plain, []))
             if self.scope.shapes[generic].pile is None:
                 self.queue.put(cost, ("sort", (generic, plain, None), None), None)
             else:
@@ -72,7 +72,8 @@ class Flow:
         elif head == "free":
             self.queue.put(cost, ("sort", (*control, "()"), fact[2]), (fact, None))
             for item in self.scope.sights["type"]:
-                self.add_item(cost + self.price("type", item), fact, item, ("free", control))
+                more = self.ways.names_cost(self.price("type", item))
+                self.add_item(together(cost, more), fact, item, ("free", control))
         else:
             self.add_list(cost, fact)
 
@@ -89,7 +90,7 @@ class Flow:
             else:
                 empty = pile[0] == "begun" or sort[2] == "()"
                 new = ("chain", control, pile[1], "()" if empty else None, asked)
-            self.queue.put(cost + self.ways.cost(weight), new, (fact, ("ask", sort, ask)))
+            self.queue.put(together(cost, self.ways.ask_cost(weight)), new, (fact, ("ask", sort, ask)))
 
     def add_chain(self, cost, fact):
         """Add what comes of uses with some items on their pile."""
@@ -108,7 +109,7 @@ class Flow:
             self.queue.put(cost, ("sort", (*control, "()"), asked), (fact, None))
         for item, behind in self.splits.get(sight, []):
             more = self.price("type", item) + self.price("types", behind) - self.price("types", sight)
-            self.add_item(cost + more, fact, item, ("list", control, behind))
+            self.add_item(together(cost, self.ways.names_cost(more)), fact, item, ("list", control, behind))
 
     def add_item(self, cost, fact, item, below):
         """Add uses with a first item, and those with what is below it when it is gone."""
@@ -117,7 +118,7 @@ class Flow:
         for row, more in self.ways.exits[top]:
             control, asked = row
             new = (below[0], control, *below[2:], asked)
-            self.queue.put(cost + more, new, (fact, ("way", (top, control, (), asked))))
+            self.queue.put(together(cost, more), new, (fact, ("way", (top, control, (), asked))))
 
     def steps(self, fact):
         """The tuples (sort, ask) of the asks by which a fact comes about, from an open use on."""

@@ -9,6 +9,7 @@ from mostspecial.meets import meet_all
 from mostspecial.table import road_back
 from mostspecial.terms import is_whole
 from mostspecial.termtexts import write_terms
+from mostspecial.ways import together
 
 
 def wrong_with(group, asked):
@@ -30,15 +31,22 @@ def has_member(members, word, many):
 
 
 def wrong_rows(flow):
-    """The tuples (fact, group, what) of all uses that go badly."""
+    """The tuples (cost, fact, group, what) of all uses that go badly."""
     found = []
     for fact in flow.costs:
         if fact[0] == "sort":
             for group in flow.grouping.groups_for(fact[1]):
                 what = wrong_with(group, fact[2])
                 if what is not None:
-                    found.append((fact, group, what))
+                    found.append((group_cost(flow, fact, group), fact, group, what))
     return found
+
+
+def group_cost(flow, fact, group):
+    """The cost of a fact if what is met by it is a use of a group."""
+    generic, plain, first = fact[1]
+    least = flow.scope.cost(generic, plain, [] if first is None or first == "()" else [first])
+    return together(flow.costs[fact], flow.ways.names_cost(group.names - least))
 
 
 def group_road(flow, fact, group):
@@ -53,8 +61,8 @@ def bad(library, k):
     rows = wrong_rows(flow)
     if not rows:
         return None
-    least = min([flow.costs[fact] for fact, group, what in rows])
-    fact, group, what = [row for row in rows if flow.costs[row[0]] == least][0]
+    least = min([row[0] for row in rows])
+    _, fact, group, what = [row for row in rows if row[0] == least][0]
     asks, generic, terms = group_road(flow, fact, group)
     return asks, what, generic, terms
 
@@ -62,26 +70,19 @@ def bad(library, k):
 def least_names(library, k):
     """The least number of type names where an open use is looked at behind which a use goes badly, or None."""
     check_view(library, k)
-    flow = flow_of(library, k, True)
-    rows = wrong_rows(flow)
-    return min([flow.costs[fact] + more_names(flow, fact[1], group) for fact, group, what in rows], default=None)
-
-
-def more_names(flow, sort, group):
-    """How many more type names uses of a group have than any of their sort needs."""
-    generic, plain, first = sort
-    return group.names - flow.scope.cost(generic, plain, [] if first is None or first == "()" else [first])
+    return min([row[0][0] for row in wrong_rows(flow_of(library, k, True))], default=None)
 
 
 def chosen_rows(library, k):
-    """For each mark of a definition that is the choice of a met use a tuple (fact, group), of the fewest asks."""
+    """For each mark of a definition that is the choice of a met use the best tuple (cost, fact, group)."""
     flow = flow_of(library, k, False)
     found = {}
     for sort, fact in flow.first.items():
         for group in flow.grouping.groups_for(sort):
-            mark = None if group.chosen is None else group.chosen.mark
-            if mark is not None and (mark not in found or flow.costs[fact] < flow.costs[found[mark][0]]):
-                found[mark] = (fact, group)
+            if group.chosen is not None:
+                mark, cost = group.chosen.mark, group_cost(flow, fact, group)
+                if mark not in found or cost < found[mark][0]:
+                    found[mark] = (cost, fact, group)
     return found
 
 
@@ -100,7 +101,7 @@ def chooser(library, k, mark):
     found = chosen_rows(library, k)
     if mark not in found:
         raise Dead(mark)
-    fact, group = found[mark]
+    _, fact, group = found[mark]
     return group_road(flow_of(library, k, False), fact, group)
 
 

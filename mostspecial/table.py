@@ -31,7 +31,7 @@ def road(library, k, generic, terms):
 
 def road_back(flow, fact, goal):
     """The number of asks by which a fact comes about, and an open use behind which a use that has a goal lies so."""
-    asks = flow.costs[fact]
+    asks = flow.costs[fact][0]
     if asks > MOST_ASKS:
         raise TooLong(asks)
     return (asks, *open_use(flow.grouping, flow.steps(fact), fact[1], goal))

@@ -11,10 +11,10 @@ from mostspecial.meets import meet_all
 from mostspecial.rows import bad, chooser, dead, least_names, needed
 from mostspecial.sights import sights, term_of
 from mostspecial.steps import asks, outcomes, sort_of
-from mostspecial.table import sorts
+from mostspecial.table import road, sorts
 from mostspecial.terms import Names
 from mostspecial.termtexts import read_terms, write_terms
-from tests.tools import ODD_VALUES, raised, told, type_of
+from tests.tools import ODD_VALUES, deep, raised, told, type_of
 from tests.trials import MachineMaker, World, names_of, random_library, random_terms, uses_with_names
 
 NAMES = "name A 0\nname B 1\nname P 2"
@@ -223,6 +223,32 @@ class TestNeeded(Rows):
     def test_piles_and_carried_places(self):
         rows = ["gen f<pile,type,num>", "for f<(A,..?r),?t,#n>", "for f<(..?r),?t,0>", "for f<(..?r),?t,#n>"]
         self.needed(library(*rows), [("f", "(A,..?v0),?v1,0")])
+
+
+class TestSmallUses(Rows):
+    def test_told_uses_have_few_names(self):
+        # f<B<?t>> asks g<?t> and g<B<?t>> alike, and the second one leads to g<B<A>> from a smaller use.
+        rows = ["gen f<type>", "inner gen g<type>", "for f<B<?t>>", "  const v = g<?t>.v+g<B<?t>>.v", "for g<B<?t>>", "  const v = 1", "for f<?t>", "for g<B<A>>", "  const w = 1",
+                "for g<?t>", "  const v = 1"]
+        self.assertEqual((1, "lacks", "f", (type_of("B", A),)), bad(library(*rows), 0))
+        self.assertEqual((1, "f", (type_of("B", A),)), chooser(library(*rows), 0, ("base", 3)))
+
+    def test_told_uses_are_within_the_limits(self):
+        # Along many asks, each number is four times as great as the one behind it, and each type one deeper.
+        rows = ["name T 3", "gen start<num,type>", "for start<#n,?t>", "  const v = c<6,#n,?t>.v", "inner gen last<num,type>", "for last<3,T<?t,?x,?y>>"]
+        for word, following in zip("cdeh", ["d<6", "e<6", "h<6", "last<"]):
+            asked = f"{following},#n,?t>" if following != "last<" else "last<#n,?t>"
+            rows += [f"inner gen {word}<num,num,type>", f"for {word}<#a+1,4*#n+3,T<?t,?p,?q>>", f"  const v = {word}<#a,#n,?t>.v", f"for {word}<0,#n,?t>", f"  const v = {asked}.v"]
+        given = library(*rows)
+        self.chooser(given, ("base", 1), 29)
+        asks, generic, terms = chooser(given, 0, ("base", 1))
+        sort_of(given, 0, generic, terms)
+        self.assertEqual(4 ** 24 * 4 - 1, terms[0])
+        for number in [7, 1000]:
+            asks, generic, terms = road(given, 0, "last", (number, deep(20)))
+            self.assertEqual((29, "start"), (asks, generic))
+            sort_of(given, 0, generic, terms)
+            self.assertEqual(4 ** 24 * (number + 1) - 1, terms[0])
 
 
 class TestEqualAnswers(unittest.TestCase):

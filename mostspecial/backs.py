@@ -36,7 +36,7 @@ class Backward:
     def step_back(self, sort, ask, goal):
         """What a use of a sort must have that asks for a goal, with as few type names as any."""
         mark, generic, _, _, word, many = ask
-        case = [row for row in self.grouping.cases[sort[0]] if row.mark == mark][0]
+        case = self.grouping.case_with(sort[0], mark)
         rows = []
         for handed in case.definition.handed:
             if (handed.generic, handed.word, handed.many) == (generic, word, many):
@@ -151,6 +151,16 @@ def goal_of(scope, generic, terms):
     pile = shape.pile_of(terms)
     items = () if pile is None else pile[1][:1]
     return Goal([terms[place] for place in shape.plain], items, not items)
+
+
+def goal_of_sort(groups, sort):
+    """The goal that a small use of a sort has."""
+    generic, plain, first = sort
+    samples, fresh = groups.scope.samples, groups.new_names()
+    kinds = groups.scope.shapes[generic].plain_kinds
+    terms = [samples.closed(kind, sight, fresh) for kind, sight in zip(kinds, plain)]
+    items = [] if first is None or first == "()" else [samples.closed("type", first, fresh)]
+    return Goal(terms, items, not items)
 
 
 def open_use(groups, steps, sort, goal):

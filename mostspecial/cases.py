@@ -119,3 +119,11 @@ def row_cost(row):
 def agree(one, other):
     """Whether two bindings have nothing unlike for any variable."""
     return all([one[variable] == other[variable] for variable in one if variable in other])
+
+
+def case_of(definition, scope):
+    """The case of a definition by the sights of a scope; scopes with the same type names have the same sights."""
+    kept, key = scope.library.kept, ("case", definition.mark, scope.told)
+    if key not in kept:
+        kept[key] = Case(definition, scope)
+    return kept[key]

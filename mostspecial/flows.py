@@ -20,15 +20,14 @@ class Flow:
       the sight `bottom`, none at all if this is "()", or what is of no matter here if it is None.
     """
 
-    def __init__(self, library, k, by_names):
-        self.grouping = groups_of(library, k)
-        self.scope = self.grouping.scope
+    def __init__(self, groups, by_names):
+        self.grouping = groups
+        self.scope = groups.scope
         self.ways = Ways(self.grouping, by_names)
         self.queue = Queue()
         self.costs = {}
         self.origin = {}
         self.first = {}
-        self.splits = self.find_splits()
         for generic in sorted(self.scope.openly):
             self.begin(generic)
         while self.queue.heap:
@@ -37,15 +36,6 @@ class Flow:
                 self.costs[fact] = cost
                 self.origin[fact] = back
                 self.go_on(cost, fact)
-
-    def find_splits(self):
-        """For each sight of lists the sights of a first item and of a list behind it that make it up."""
-        found = {}
-        for behind in self.scope.sights["types"]:
-            for item in self.scope.sights["type"]:
-                sight = self.scope.eyes.longer_sight(item, behind)
-                found.setdefault(sight, []).append((item, behind))
-        return found
 
     def price(self, kind, sight):
         """The least number of type names in a term of a sight."""
@@ -107,9 +97,10 @@ class Flow:
         _, control, sight, asked = fact
         if self.scope.eyes.empty_sight() == sight:
             self.queue.put(cost, ("sort", (*control, "()"), asked), (fact, None))
-        for item, behind in self.splits.get(sight, []):
-            more = self.price("type", item) + self.price("types", behind) - self.price("types", sight)
-            self.add_item(together(cost, self.ways.names_cost(more)), fact, item, ("list", control, behind))
+        for item, behinds in self.scope.splits_of(sight).items():
+            for behind in behinds:
+                more = self.price("type", item) + self.price("types", behind) - self.price("types", sight)
+                self.add_item(together(cost, self.ways.names_cost(more)), fact, item, ("list", control, behind))
 
     def add_item(self, cost, fact, item, below):
         """Add uses with a first item, and those with what is below it when it is gone."""
@@ -137,5 +128,5 @@ def flow_of(library, k, by_names):
     """The flow of a view, by asks or by type names."""
     key = ("flow", k, by_names)
     if key not in library.kept:
-        library.kept[key] = Flow(library, k, by_names)
+        library.kept[key] = Flow(groups_of(library, k), by_names)
     return library.kept[key]

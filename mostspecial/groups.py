@@ -1,6 +1,6 @@
 """Which definitions of a view take uses of a sort together, and what these ask."""
 
-from mostspecial.cases import Case
+from mostspecial.cases import case_of
 from mostspecial.matches import bare, matching, more_special, put_in_all
 from mostspecial.meets import meet
 from mostspecial.samples import Fresh, count_names
@@ -27,16 +27,17 @@ class Group:
 
 
 class Groups:
-    """The definitions of a view, and what they come to for each sort."""
+    """Some definitions, those of a view or of two together, and what they come to for each sort."""
 
-    def __init__(self, library, k):
-        self.scope = scope_of(library, k)
-        self.cases = {word: [] for word in self.scope.shapes}
-        for definition in library.definitions_of(k):
-            self.cases[definition.generic].append(Case(definition, self.scope))
-        self.used_names = [name for name, count in header_names(library)]
+    def __init__(self, scope, definitions):
+        self.scope = scope
+        self.cases = {word: [] for word in scope.shapes}
+        for definition in definitions:
+            self.cases[definition.generic].append(case_of(definition, scope))
+        self.used_names = [name for name, count in header_names(scope.library)]
         self.found = {}
         self.askings = {}
+        self.by_uses = {}
         self.above = {}
 
     def new_names(self):
@@ -153,26 +154,37 @@ class Groups:
         it needs if what they ask has no more than any of its own sort needs.
         """
         if sort not in self.askings:
-            found = {}
+            self.askings[sort], self.by_uses[sort] = {}, {}
             sure, others = self.candidates(sort)
             for case in [*sure, *others]:
-                self.add_asks(found, case, sort, sure, others)
-            self.askings[sort] = found
+                self.add_asks(case, sort, sure, others)
         return self.askings[sort]
 
-    def add_asks(self, found, case, sort, sure, others):
+    def inner_uses(self, sort, ask):
+        """A definition that is the choice of uses of a sort, and those of what it hands on by which they ask."""
+        self.asks_for(sort)
+        definition = self.case_with(sort[0], ask[0]).definition
+        return definition, [definition.handed[at] for at in self.by_uses[sort][ask]]
+
+    def case_with(self, generic, mark):
+        """The case with a mark."""
+        return [case for case in self.cases[generic] if case.mark == mark][0]
+
+    def add_asks(self, case, sort, sure, others):
         """Add what those uses of a sort ask of which a case is the choice."""
+        found, by_uses = self.askings[sort], self.by_uses[sort]
         if not all([self.is_above(case, other) for other in sure]):
             return
         rivals = [other for other in others if not self.is_above(case, other)]
         rows = None
         if rivals:
             rows = [row for row in case.rows(sort, case.kinds) if not self.always_taken(case, sort, row[0], rivals)]
-        for handed in case.definition.handed:
+        for at, handed in enumerate(case.definition.handed):
             kept = {variable: True for variable, _ in standing(handed.all_seen())}
             left = case.rows(sort, kept) if rows is None else case.project(rows, kept)
             for binding, cost in left:
                 ask = self.ask_of(case, sort, handed, binding)
+                by_uses.setdefault(ask, {})[at] = True
                 weight = cost + self.weight(case, sort, handed, ask)
                 if ask not in found or weight < found[ask]:
                     found[ask] = weight
@@ -224,5 +236,5 @@ def groups_of(library, k):
     """The groups of a view."""
     key = ("groups", k)
     if key not in library.kept:
-        library.kept[key] = Groups(library, k)
+        library.kept[key] = Groups(scope_of(library, k), library.definitions_of(k))
     return library.kept[key]

@@ -43,6 +43,16 @@ class Definition:
         self.shape = shapes[self.generic]
         self.handed = [Handed(use, shapes[use[0]], self.own_rest()) for use in self.uses]
 
+    def has(self, word, many):
+        """Whether there is the constant, `many` being -1, or the function with so many parameters."""
+        if many == -1:
+            return any(member[:2] == ("const", word) for member in self.members)
+        return any(member[:2] == ("fun", word) and len(member[2]) == many for member in self.members)
+
+    def constant_words(self):
+        """The words of the constants, in their order."""
+        return [member[1] for member in self.members if member[0] == "const"]
+
     def own_items(self):
         """The items that the pattern has at its pile."""
         pile = self.shape.pile_of(self.pattern)

@@ -20,14 +20,7 @@ def wrong_with(group, asked):
         return "two"
     if asked is None:
         return None
-    return None if has_member(group.chosen.definition.members, *asked) else "lacks"
-
-
-def has_member(members, word, many):
-    """Whether there is the constant, `many` being -1, or the function with so many parameters."""
-    if many == -1:
-        return any(member[:2] == ("const", word) for member in members)
-    return any(member[:2] == ("fun", word) and len(member[2]) == many for member in members)
+    return None if group.chosen.definition.has(*asked) else "lacks"
 
 
 def wrong_rows(flow):

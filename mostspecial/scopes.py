@@ -34,20 +34,34 @@ def is_sight_form(value, kind):
 
 
 class Scope:
-    """The names, generics and sights of a view, in the order in which they are told."""
+    """Type names and generics of a library, those of a view or of two together, and the sights of their terms.
 
-    def __init__(self, library, k):
+    `shapes` has the shapes of the generics by what tells them, and `openly` tells those that are open.
+    """
+
+    def __init__(self, library, names, shapes, openly):
         self.library = library
-        self.k = k
+        self.told = tuple(names)
         self.eyes = eyes_of(library)
         self.samples = samples_of(library)
-        self.sights = all_sights(self.eyes, library.names_of(k), MOST_SIGHTS)
+        self.sights = all_sights(self.eyes, names, MOST_SIGHTS)
         self.known = {}
         for kind in self.sights:
             self.known[kind] = {sight: True for sight in self.sights[kind]}
-        self.names = ViewNames(library.names_of(k), header_names(library))
-        self.shapes = {word: library.shapes[word] for word, kinds, inner in library.generics_of(k)}
-        self.openly = [word for word, kinds, inner in library.generics_of(k) if not inner]
+        self.names = ViewNames(names, header_names(library))
+        self.shapes = shapes
+        self.openly = openly
+        self.split_up = None
+
+    def splits_of(self, sight):
+        """The sights of first items of lists of a sight, each with those of the lists that may stand behind it."""
+        if self.split_up is None:
+            self.split_up = {}
+            for behind in self.sights["types"]:
+                for item in self.sights["type"]:
+                    rows = self.split_up.setdefault(self.eyes.longer_sight(item, behind), {})
+                    rows.setdefault(item, []).append(behind)
+        return self.split_up.get(sight, {})
 
     def is_use(self, generic, terms):
         """Whether any values are a generic of the view and the terms of a use of the view."""
@@ -108,5 +122,8 @@ def scope_of(library, k):
     """The scope of a view."""
     key = ("scope", k)
     if key not in library.kept:
-        library.kept[key] = Scope(library, k)
+        generics = library.generics_of(k)
+        shapes = {word: library.shapes[word] for word, kinds, inner in generics}
+        openly = [word for word, kinds, inner in generics if not inner]
+        library.kept[key] = Scope(library, library.names_of(k), shapes, openly)
     return library.kept[key]

@@ -24,7 +24,8 @@ INTERFACE = {
     "texts": "read_unit write_unit", "programs": "Program faults view prints_in", "plain": "plain", "early": "constants",
     "instances": "asked roots instances", "library": "Library looked", "apart": "apart",
     "sights": "looks measure sight sights term_of single", "steps": "sort_of is_sort outcomes asks", "table": "sorts met road",
-    "rows": "bad least_names dead chooser needed",
+    "rows": "bad least_names dead chooser needed", "rings": "endless no_value", "well": "some_well", "books": "counts book unlike",
+    "papers": "is_paper",
 }
 # The interface names this argument as it names a function of the file.
 SAME_NAMES = [("instances", "instances", "roots"), ("sights", "term_of", "sight"), ("sights", "single", "sight")]

@@ -114,7 +114,7 @@ def add_ways(known, todo, ways, sight):
 
 
 def find_ways(groups, sorts):
-    """The moves by the ways out of some sorts, which all sorts that they lead to are among: the fewest that there are."""
+    """The moves by the ways out of some sorts, and by no others; they have all sorts to which edges lead."""
     moves = Moves(groups, {})
     todo = [sort for sort in sorts if sort[2] is not None and sort[2] != "()"]
     waiting = {sort: True for sort in todo}

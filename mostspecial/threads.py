@@ -69,7 +69,8 @@ def constants_asking(definition, handed):
             found[word] = True
     more = list(found)
     while more:
-        named = [word for word in parts if word not in found and any([("name", other) in parts[word] for other in more])]
+        left = [word for word in parts if word not in found]
+        named = [word for word in left if any([("name", other) in parts[word] for other in more])]
         found.update({word: True for word in named})
         more = named
     return list(found)

@@ -7,6 +7,11 @@ class Graph:
     def __init__(self):
         self.arcs = {}
 
+    def add_nodes(self, nodes):
+        """Add nodes that may have no arcs."""
+        for node in nodes:
+            self.arcs.setdefault(node, {})
+
     def lead(self, node, other, strict):
         """Add an arc; of several between two nodes, one that counts is enough."""
         row = self.arcs.setdefault(node, {})

@@ -1,139 +1,92 @@
-"""Edges: to which sorts the uses of a sort lead, through ways out of what they lay on piles."""
+"""Where the uses of a sort lead, through ways out of what they lay on piles."""
 
-from mostspecial.threads import led_on, threads_of
+from mostspecial.threads import threads_of
+
+# What may lie below the items of a pile: nothing, items that were there, and nothing below items that are laid.
+BEGUN = "begun"
+BELOW = "below"
+LAID = "laid"
+# What stands in the place of what lies below if there is no pile.
+NO_PILE = "no pile"
 
 
-class Edge:
-    """An edge to a sort, which is asked there for a member: a tuple (word, many).
+def has_item(sort):
+    """Whether the uses of a sort have a first item on a pile."""
+    return sort[2] is not None and sort[2] != "()"
 
-    So many items `stay` laid along it, and the keys of the dict `threads` are its threads.
+
+def is_laying(sort, ask):
+    """Whether an ask of a sort hands on what lies below the first item of its pile."""
+    return has_item(sort) and ask[3] is not None and ask[3][0] == "laid"
+
+
+def spot_of(sort, ask):
+    """The spot to which an ask of a sort leads.
+
+    A *control* is a tuple of a generic and sights. A *spot* is a tuple of a control, of the sights of items that
+    lie on its pile, and of what lies below these: one of the words above, or the sight of a list.
     """
+    _, generic, plain, pile, _, _ = ask
+    if pile is None:
+        return (generic, plain), (), NO_PILE
+    if pile[0] == "beside":
+        return (generic, plain), pile[1], pile[2]
+    if pile[0] == "begun":
+        return (generic, plain), pile[1], BEGUN
+    return (generic, plain), pile[1], BELOW if has_item(sort) else LAID
 
-    def __init__(self, sort, asked, stay, threads):
-        self.sort = sort
-        self.member = asked
-        self.stay = stay
-        self.threads = threads
+
+def stays(spot):
+    """Whether items stay laid below the first one of a spot."""
+    return len(spot[1]) > 1 and spot[2] in (BELOW, LAID)
 
 
 class Moves:
-    """The edges of a view by the ways out of its sorts.
+    """Where uses of a view lead by the ways out of its sorts.
 
-    A *way* is a tuple (control, asked), of a generic with sights and of a word and a number. `out` has for each
-    sort with a first item a dict from its ways to their threads, which are keys of dicts.
+    A *way* is a tuple (control, asked), where asked is a tuple of a word and a number. `out` has for each sort
+    with a first item a dict from its ways to their threads, which are the keys of dicts.
     """
 
     def __init__(self, groups, out):
         self.grouping = groups
         self.scope = groups.scope
         self.out = out
-        self.found = {}
+        self.known = {}
 
     def threads_by(self, sort, ask):
         """The threads of an ask of a sort."""
-        if (sort, ask) not in self.found:
-            self.found[(sort, ask)] = threads_of(self.grouping, sort, ask)
-        return self.found[(sort, ask)]
+        if (sort, ask) not in self.known:
+            self.known[(sort, ask)] = threads_of(self.grouping, sort, ask)
+        return self.known[(sort, ask)]
 
     def ways_out(self, sort):
         """The ways out of a sort with a first item."""
         return self.out.get(sort, {})
 
-    def by_ask(self, sort, ask):
-        """The edges by an ask of a sort, and its ends: a dict as those of `out`."""
-        _, generic, plain, pile, word, many = ask
-        asked, threads = (word, many), self.threads_by(sort, ask)
-        if pile is None:
-            return [Edge((generic, plain, None), asked, 0, threads)], {}
-        edges, ends = [], {((generic, plain), asked): threads}
-        for k, item in enumerate(pile[1]):
-            stay = len(pile[1]) - 1 - k if pile[0] == "laid" else 0
-            edges.extend(edges_on(ends, item, stay))
-            ends = self.over(ends, item)
-        if pile[0] == "beside":
-            edges.extend(self.into_list(ends, pile[2]))
-        elif pile[0] == "begun" or sort[2] == "()":
-            edges.extend(edges_on(ends, "()", 0))
-        return edges, ends
+    def tops(self, spot):
+        """The sorts of uses at a spot, each with what may be left when the first item is gone.
 
-    def over(self, ways, item):
-        """The ways that go on from some ways with an item on top, when this is gone."""
-        found = {}
-        for (control, _), threads in ways.items():
-            for way, more in self.ways_out((*control, item)).items():
-                found.setdefault(way, {}).update(led_on(threads, more))
+        This is told by tuples of the items that are left, and of what lies below them.
+        """
+        control, stack, below = spot
+        if stack:
+            return [((*control, stack[0]), [(stack[1:], below)])]
+        if below == NO_PILE:
+            return [((*control, None), [])]
+        if below in (BEGUN, LAID):
+            return [((*control, "()"), [])]
+        if below == BELOW:
+            return []
+        found = [((*control, "()"), [])] if below == self.scope.eyes.empty_sight() else []
+        for item, behinds in self.scope.splits_of(below).items():
+            found.append(((*control, item), [((), behind) for behind in behinds]))
         return found
 
-    def into_list(self, ways, sight):
-        """The edges from some ways to uses with any list of a sight as their pile."""
-        known, todo = {}, []
-        add_ways(known, todo, ways, sight)
-        while todo:
-            way, left = todo.pop()
-            for item, behinds in self.scope.splits_of(left).items():
-                more = self.over({way: known[(way, left)]}, item)
-                for behind in behinds:
-                    add_ways(known, todo, more, behind)
-        edges = []
-        for (way, left), threads in known.items():
-            if left == self.scope.eyes.empty_sight():
-                edges.extend(edges_on({way: threads}, "()", 0))
-            for item in self.scope.splits_of(left):
-                edges.extend(edges_on({way: threads}, item, 0))
-        return edges
-
-    def edges_of(self, sort):
-        """All edges from a sort."""
-        return [edge for ask in self.grouping.asks_for(sort) for edge in self.by_ask(sort, ask)[0]]
-
-    def ends_of(self, sort):
-        """The ends of all asks with "laid" of a sort with a first item, and the sorts that these asks reach."""
-        ends, reached = {}, {}
-        for ask in self.grouping.asks_for(sort):
-            if ask[3] is not None and ask[3][0] == "laid":
-                edges, more = self.by_ask(sort, ask)
-                reached.update({edge.sort: True for edge in edges})
-                for way, threads in more.items():
-                    ends.setdefault(way, {}).update(threads)
-        return ends, list(reached)
-
-
-def edges_on(ways, item, stay):
-    """The edges to the sorts of some ways with a first item, or with "()" for the empty pile."""
-    return [Edge((*control, item), asked, stay, threads) for (control, asked), threads in ways.items()]
-
-
-def add_ways(known, todo, ways, sight):
-    """Note some ways above any list of a sight; those with threads that are new go to what is to be looked at."""
-    for way, threads in ways.items():
-        key = (way, sight)
-        before = known.get(key)
-        if before is None or not all([thread in before for thread in threads]):
-            known[key] = {**threads, **(before or {})}
-            todo.append(key)
-
-
-def find_ways(groups, sorts):
-    """The moves by the ways out of some sorts, and by no others; they have all sorts to which edges lead."""
-    moves = Moves(groups, {})
-    todo = [sort for sort in sorts if sort[2] is not None and sort[2] != "()"]
-    waiting = {sort: True for sort in todo}
-    users = {sort: {} for sort in todo}
-    while todo:
-        sort = todo.pop()
-        waiting[sort] = False
-        ends, reached = moves.ends_of(sort)
-        for other in reached:
-            users[other][sort] = True
-        if count_threads(ends) > count_threads(moves.ways_out(sort)):
-            moves.out[sort] = ends
-            for user in users[sort]:
-                if not waiting[user]:
-                    waiting[user] = True
-                    todo.append(user)
-    return moves
-
-
-def count_threads(ways):
-    """How many ways and threads there are."""
-    return sum([1 + len(threads) for threads in ways.values()])
+    def leads(self, spot):
+        """The tuples (spot, asked, threads) of what comes of a spot when the first item is gone."""
+        found = []
+        for top, left in self.tops(spot):
+            for (control, asked), threads in self.ways_out(top).items():
+                found.extend([((control, *row), asked, threads) for row in left])
+        return found

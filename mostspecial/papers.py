@@ -1,10 +1,13 @@
 """Papers: finite tables that show that all uses of a library go well."""
 
 from mostspecial.apart import check_library
-from mostspecial.groups import groups_of
-from mostspecial.moves import Moves
+from mostspecial.circles import Graph
+from mostspecial.ends import Ends
+from mostspecial.moves import has_item, is_laying, spot_of
 from mostspecial.pairs import pair_of
-from mostspecial.terms import is_whole, is_word
+from mostspecial.parts import Part
+from mostspecial.threads import told
+from mostspecial.walks import falls_at, tendency, thread_leads
 
 
 def is_paper(library, value):
@@ -15,7 +18,7 @@ def is_paper(library, value):
     parts = []
     for k, rows in enumerate(value):
         part = Part(library, k)
-        if not part.reads(rows) or not part.holds():
+        if not part.reads(rows) or not Check(part).holds():
             return False
         parts.append(part)
     return all([agree(library, k, j, parts) for j in range(len(parts)) for k in range(j)])
@@ -28,84 +31,23 @@ def agree(library, k, j, parts):
     return not any([bool(pair.unlike_groups(sort)) for sort in shared])
 
 
-def followed(groups, sort):
-    """What is followed in a sort: its carried places, that of its pile, and the constants of its choices."""
-    found = {place: True for place in places_followed(groups.scope.shapes[sort[0]])}
-    for group in groups.groups_for(sort):
-        if group.chosen is not None:
-            found.update({word: True for word in group.chosen.definition.constant_words()})
-    return list(found)
+class Check:
+    """Whether what a part of a paper says is so."""
 
-
-def places_followed(shape):
-    """The places of a generic that are carried or of the kind pile."""
-    return [*shape.carried, *shape.piles]
-
-
-def is_named(value, names):
-    """Whether a value is one of some places and words."""
-    return (is_whole(value) or isinstance(value, str)) and value in names
-
-
-def has_pile_item(sort):
-    """Whether the uses of a sort have an item on their pile."""
-    return sort[2] is not None and sort[2] != "()"
-
-
-class Part:
-    """The part of a paper for a view, once it is read.
-
-    `numbers` has for each sort that it holds the numbers of what is followed there, `moves` the ways of each.
-    """
-
-    def __init__(self, library, k):
-        self.grouping = groups_of(library, k)
-        self.scope = self.grouping.scope
-        self.moves = Moves(self.grouping, {})
-        self.numbers = {}
-
-    def reads(self, rows):
-        """Read the rows of a part, and tell whether they have the form of such."""
-        return isinstance(rows, tuple) and all([self.reads_row(row) for row in rows])
-
-    def reads_row(self, row):
-        """Read a row, and tell whether it has the form of one."""
-        if not isinstance(row, tuple) or len(row) != 3:
-            return False
-        sort, ways, numbers = row
-        if not self.scope.is_sort(sort) or sort in self.numbers:
-            return False
-        names = followed(self.grouping, sort)
-        self.numbers[sort] = read_numbers(numbers, names)
-        self.moves.out[sort] = self.read_ways(sort, ways, names)
-        return self.numbers[sort] is not None and self.moves.out[sort] is not None
-
-    def read_ways(self, sort, ways, names):
-        """The ways of a row with their threads, or None."""
-        if not isinstance(ways, tuple) or len(ways) > 0 and not has_pile_item(sort):
-            return None
-        found = {}
-        for way in ways:
-            if not isinstance(way, tuple) or len(way) != 5:
-                return None
-            generic, plain, word, many, threads = way
-            if not self.scope.is_sort((generic, plain, "()")) or not is_word(word) or not is_whole(many) or many < -1:
-                return None
-            key = ((generic, plain), (word, many))
-            ends = [*places_followed(self.scope.shapes[generic]), *([word] if many == -1 else [])]
-            row = read_threads(threads, names, ends)
-            if key in found or row is None:
-                return None
-            found[key] = row
-        return found
+    def __init__(self, part):
+        self.grouping = part.grouping
+        self.scope = part.scope
+        self.moves = part.moves
+        self.numbers = part.numbers
+        self.ends = Ends(part.moves)
 
     def holds(self):
         """Whether what the part says is so."""
         if not all([self.has_choices(sort) for sort in self.numbers]):
             return False
-        if not all([self.keeps_asks(sort) for sort in self.numbers]):
+        if not self.holds_open_uses() or not self.holds_open_ways() or not self.holds_asked():
             return False
-        return self.holds_open_uses() and self.holds_open_ways()
+        return all([self.keeps_ways(sort) for sort in self.numbers]) and self.keeps_numbers()
 
     def has_choices(self, sort):
         """Whether each use of a sort has a choice."""
@@ -117,32 +59,74 @@ class Part:
             return False
         return all([group.chosen.definition.has(*asked) for group in self.grouping.groups_for(sort)])
 
-    def keeps_asks(self, sort):
-        """Whether the part holds all to which edges lead from a sort, with ways and numbers as they must be."""
+    def holds_asked(self):
+        """Whether the part holds all to which edges lead."""
+        todo = [(spot_of(sort, ask), ask[4:]) for sort in self.numbers for ask in self.grouping.asks_for(sort)]
+        seen, gone = {row: True for row in todo}, {}
+        while todo:
+            spot, asked = todo.pop()
+            if not all([self.can_be_asked(top, asked) for top, left in self.moves.tops(spot)]):
+                return False
+            if spot in gone:
+                continue
+            gone[spot] = True
+            for other, asked_next, _ in self.moves.leads(spot):
+                if (other, asked_next) not in seen:
+                    seen[(other, asked_next)] = True
+                    todo.append((other, asked_next))
+        return True
+
+    def keeps_ways(self, sort):
+        """Whether the ends of all that uses of a sort ask by what they lay are ways of it, with their threads."""
+        if not has_item(sort):
+            return True
+        row = self.moves.out[sort]
         for ask in self.grouping.asks_for(sort):
-            edges, ends = self.moves.by_ask(sort, ask)
-            if not all([self.keeps_edge(sort, edge) for edge in edges]):
-                return False
-            laid = ask[3] is not None and ask[3][0] == "laid"
-            if laid and has_pile_item(sort) and not all([self.has_way(sort, way, ends[way]) for way in ends]):
-                return False
+            if is_laying(sort, ask):
+                ends = self.ends.all_ends(spot_of(sort, ask), ask[4:])
+                if not all([way in row for way in ends]):
+                    return False
+                for thread in told(self.moves.threads_by(sort, ask)):
+                    rows = self.ends.threads_on(spot_of(sort, ask), ask[4:], thread)
+                    if not all([new in row[way] for way, new in rows]):
+                        return False
         return True
 
-    def keeps_edge(self, sort, edge):
-        """Whether the part holds the sort to which an edge leads, with numbers that fit its threads."""
-        if not self.can_be_asked(edge.sort, edge.member):
-            return False
-        pile = self.scope.shapes[sort[0]].pile
-        for a, b, falls in told(edge.threads):
-            less = falls or edge.stay > 0 and a == pile
-            if self.numbers[edge.sort][b] > self.numbers[sort][a] - (1 if less else 0):
-                return False
-        return True
+    def keeps_numbers(self):
+        """Whether the numbers of all that is followed fit the threads of all edges."""
+        graph, first = Graph(), []
+        for sort in self.numbers:
+            for ask in self.grouping.asks_for(sort):
+                for thread in told(self.moves.threads_by(sort, ask)):
+                    node = (spot_of(sort, ask), thread[1], tendency(self.scope, sort, thread))
+                    first.append((self.numbers[sort][thread[0]], node))
+        self.add_arcs(graph, [node for number, node in first])
+        needs = self.needs_of(graph)
+        return all([number >= needs[node] for number, node in first])
 
-    def has_way(self, sort, way, threads):
-        """Whether a sort has a way with some threads."""
-        row = self.moves.out[sort].get(way)
-        return row is not None and all([thread in row for thread in told(threads)])
+    def add_arcs(self, graph, nodes):
+        """Add some nodes of threads at spots to a graph, and all to which they lead."""
+        todo = list({node: True for node in nodes})
+        graph.add_nodes(todo)
+        while todo:
+            node = todo.pop()
+            for other in thread_leads(self.moves, node):
+                if other not in graph.arcs:
+                    todo.append(other)
+                graph.lead(node, other, False)
+
+    def needs_of(self, graph):
+        """For each node of a graph the least number that the beginning of a thread must have to come there."""
+        needs = {}
+        for knot in graph.knots():
+            need = 0
+            for spot, b, how in knot:
+                fall = 1 if falls_at(spot, how) else 0
+                need = max([need, *[self.numbers[top][b] + fall for top, left in self.moves.tops(spot)]])
+                ahead = [other for other in graph.arcs[(spot, b, how)] if other in needs]
+                need = max([need, *[needs[other] for other in ahead]])
+            needs.update({node: need for node in knot})
+        return needs
 
     def holds_open_uses(self):
         """Whether the part holds the sorts of all open uses."""
@@ -162,37 +146,3 @@ class Part:
                 seen.update({way: True for way in more})
                 todo.extend(more)
         return True
-
-
-def told(threads):
-    """The threads that papers tell: not the one that tells just that an ask is still."""
-    return [thread for thread in threads if thread[0] is not None]
-
-
-def read_numbers(numbers, names):
-    """The numbers of all that is followed in a sort, or None."""
-    if not isinstance(numbers, tuple) or len(numbers) != len(names):
-        return None
-    found = {}
-    for row in numbers:
-        if not isinstance(row, tuple) or len(row) != 2 or not is_named(row[0], names) or row[0] in found:
-            return None
-        if not is_whole(row[1]) or row[1] < 0:
-            return None
-        found[row[0]] = row[1]
-    return found
-
-
-def read_threads(threads, names, ends):
-    """The threads of a way from what is followed in a sort to some ends, as the keys of a dict, or None."""
-    if not isinstance(threads, tuple):
-        return None
-    found = {}
-    for thread in threads:
-        if not isinstance(thread, tuple) or len(thread) != 3:
-            return None
-        a, b, falls = thread
-        if not is_named(a, names) or not is_named(b, ends) or not isinstance(falls, bool) or thread in found:
-            return None
-        found[thread] = True
-    return found

@@ -1,8 +1,8 @@
 """Papers made of the sorts that are met."""
 
 from mostspecial.flows import flow_of
-from mostspecial.groups import groups_of
-from mostspecial.papers import followed, told
+from mostspecial.parts import followed
+from mostspecial.threads import told
 from mostspecial.walks import walks_of
 
 
@@ -13,14 +13,15 @@ def paper_of(library):
 
 def part_of(library, k):
     """The part of a paper for a view."""
-    walks = walks_of(library, k)
-    return tuple([row_of(groups_of(library, k), walks, sort) for sort in flow_of(library, k, False).first])
+    flow, walks = flow_of(library, k, False), walks_of(library, k)
+    return tuple([row_of(flow, walks, sort) for sort in flow.first])
 
 
-def row_of(groups, walks, sort):
+def row_of(flow, walks, sort):
     """The row of a sort."""
     ways = []
-    for (control, asked), threads in walks.moves.ways_out(sort).items():
+    for (control, asked), _ in flow.ways.exits.get(sort, []):
+        threads = walks.moves.ways_out(sort).get((control, asked), {})
         ways.append((*control, *asked, tuple(told(threads))))
-    numbers = [(a, walks.circles.ranks.get((sort, a), 0)) for a in followed(groups, sort)]
+    numbers = [(a, walks.circles.ranks.get((sort, a), 0)) for a in followed(flow.grouping, sort)]
     return sort, tuple(ways), tuple(numbers)

@@ -76,11 +76,6 @@ def constants_asking(definition, handed):
     return list(found)
 
 
-def led_on(threads, more):
-    """The threads that go on from some threads through others."""
-    found = {}
-    for a, b, falls in threads:
-        for other, c, falls_more in more:
-            if b == other:
-                found[(a, c, falls or falls_more)] = True
-    return found
+def told(threads):
+    """The threads that papers tell: not the one that tells just that an ask is still."""
+    return [thread for thread in threads if thread != STILL]

@@ -9,11 +9,14 @@ class Queue:
     def __init__(self):
         self.heap = []
         self.many = 0
+        self.best = {}
 
     def put(self, cost, fact, back):
-        """Add a fact with its cost, and with what it comes from."""
-        heappush(self.heap, (cost, self.many, fact, back))
-        self.many += 1
+        """Add a fact with its cost, and with what it comes from, unless it has been added at no greater cost."""
+        if fact not in self.best or cost < self.best[fact]:
+            self.best[fact] = cost
+            heappush(self.heap, (cost, self.many, fact, back))
+            self.many += 1
 
     def take(self):
         """Take the next fact: a tuple (cost, fact, back)."""

@@ -6,8 +6,8 @@ from mostspecial.errors import AsksTwo, TooLong
 from mostspecial.flows import Flow
 from mostspecial.groups import groups_of
 from mostspecial.lanes import Lanes, base_ask, base_sort
-from mostspecial.moves import find_ways
 from mostspecial.rows import group_cost
+from mostspecial.strands import Strands
 from mostspecial.table import MOST_ASKS
 from mostspecial.walks import Walks, walks_of
 
@@ -49,7 +49,7 @@ def ends_well(lanes, flow, walks):
     """The tuples (cost, fact, goal) of all that ends, or goes round for ever, without going badly."""
     # Behind a use whose sort is on a ring only one thing comes after another, so it goes round if it can.
     sorts = list(flow.first)
-    own = Walks(find_ways(lanes, sorts), sorts)
+    own = Walks(Strands(lanes, sorts).moves, sorts)
     found = []
     for sort, fact in flow.first.items():
         base = base_sort(sort)

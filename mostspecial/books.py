@@ -54,7 +54,11 @@ def counts(program, generic, terms):
 
 def book(program, word, roots, most):
     """For what counts of each use that is made, the mark of the use's choice."""
-    rows = instances(program, word, roots, most)
+    return book_of(program, instances(program, word, roots, most))
+
+
+def book_of(program, rows):
+    """The book of some uses with their choices: tuples (generic, terms, mark)."""
     counting = Counting(program)
     found, wrong = {}, {}
     for generic, terms, mark in rows:

@@ -1,7 +1,8 @@
 """Constants early: the values of the constants of a use."""
 
 from mostspecial.choices import check_most, choices_in
-from mostspecial.reading import Meter, Reader
+from mostspecial.machine import Meter
+from mostspecial.reading import Reader
 
 
 def constants(program, word, generic, terms, most):
@@ -9,6 +10,11 @@ def constants(program, word, generic, terms, most):
     choices = choices_in(program, word)
     choices.check_use(generic, terms)
     check_most(most)
+    return values_of(choices, generic, terms, most)
+
+
+def values_of(choices, generic, terms, most):
+    """The values of the constants of a use's choice, with at most so many constants reckoned."""
     chosen = choices.choice(generic, terms)
     reader = Reader(choices, Meter(most))
-    return {name: reader.value(("const", generic, terms, name)) for name in chosen.constants}
+    return {word: reader.value(("const", generic, terms, word)) for word in chosen.constants}

@@ -1,8 +1,9 @@
 """Plain reading: the values of all prints of a program."""
 
 from mostspecial.choices import check_most, check_program, choices_in
+from mostspecial.machine import Meter
 from mostspecial.programs import prints_in
-from mostspecial.reading import Meter, Reader
+from mostspecial.reading import Reader
 
 
 def plain(program, most):

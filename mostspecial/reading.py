@@ -1,111 +1,32 @@
-"""Reading expressions: their values, by what they ask in a view."""
+"""Reading expressions in a view: their values, by what they ask there."""
 
-from mostspecial.errors import Lacks, RingOfConstants, TooFar, TooGreat
+from mostspecial.errors import Lacks, RingOfConstants
+from mostspecial.machine import Machine, Scene
 from mostspecial.matches import put_in_all
 
-GREATEST_VALUE = 1000000000000000000000000000000
-MOST_CALLS_DEEP = 25
 
-
-def joined(head, left, right):
-    """The value of an expression with two sides, by the values of these."""
-    if head == "add":
-        return left + right
-    if head == "sub":
-        return left - right
-    if head == "mul":
-        return left * right
-    if head == "less":
-        return 1 if left < right else 0
-    return 1 if left == right else 0
-
-
-class Meter:
-    """How many functions have been called and constants reckoned, and how many may be."""
-
-    def __init__(self, most):
-        self.most = most
-        self.many = 0
-
-    def tick(self, deep):
-        """One more, so deep."""
-        if self.many >= self.most or deep > MOST_CALLS_DEEP:
-            raise TooFar(self.most)
-        self.many += 1
-
-
-class Scene:
-    """Where an expression is read: the use whose member it is, or None, the parameters' values, and how deep."""
-
-    def __init__(self, chosen, named, deep):
-        self.chosen = chosen
-        self.named = named
-        self.deep = deep
-
-
-class Reader:
-    """What reads expressions in one view, with the values of constants that are kept.
-
-    What is left to do waits in `todo`, the next thing last, and the values that it will need in `worths`: so
-    calls that lie deep are no nested calls here.
-    """
+class Reader(Machine):
+    """What reads expressions in one view, with the values of constants that are kept."""
 
     def __init__(self, choices, meter):
+        Machine.__init__(self, {}, meter)
         self.choices = choices
-        self.meter = meter
         self.kept = {}
         self.begun = {}
-        self.todo = []
-        self.worths = []
 
-    def value(self, expression):
-        """The value of an expression that a print may be."""
-        self.todo.append(("read", expression, Scene(None, {}, 0)))
-        while self.todo:
-            head, what, scene = self.todo.pop()
-            if head == "read":
-                self.read(what, scene)
-            elif head == "join":
-                right, left = self.worths.pop(), self.worths.pop()
-                self.push(joined(what, left, right))
-            elif head == "pick":
-                side = what[3] if self.worths.pop() == 0 else what[2]
-                self.todo.append(("read", side, scene))
-            elif head == "call":
-                self.call(what, scene)
-            else:
-                self.kept[what] = self.worths[-1]
-                del self.begun[what]
-        return self.worths.pop()
-
-    def push(self, value):
-        """Note the value of an expression."""
-        if not -GREATEST_VALUE <= value <= GREATEST_VALUE:
-            raise TooGreat()
-        self.worths.append(value)
-
-    def read(self, expression, scene):
-        """Read an expression, or note what must be read first."""
+    def read_other(self, expression, scene):
+        """Read a number variable, a name or a constant, or keep the value of a constant that has been read."""
         head = expression[0]
-        if head == "num":
-            self.push(expression[1])
-        elif head == "of":
+        if head == "of":
             self.push(scene.chosen.binding[expression[1]])
         elif head == "name":
             self.read_name(expression[1], scene)
         elif head == "const":
             chosen = self.ask(expression, scene, -1)
             self.reckon(chosen, expression[3], scene.deep)
-        elif head in ("own", "call"):
-            self.todo.append(("call", expression, scene))
-            self.todo.extend([("read", arg, scene) for arg in expression[-1][::-1]])
-        elif head == "if":
-            self.todo.append(("pick", expression, scene))
-            self.todo.append(("read", expression[1], scene))
         else:
-            self.todo.append(("join", head, scene))
-            self.todo.append(("read", expression[2], scene))
-            self.todo.append(("read", expression[1], scene))
+            self.kept[expression[1]] = self.worths[-1]
+            del self.begun[expression[1]]
 
     def read_name(self, word, scene):
         """Read a parameter, or a constant of the same definition."""
@@ -135,19 +56,14 @@ class Reader:
             raise RingOfConstants(chosen.generic, chosen.terms, word)
         self.meter.tick(deep + 1)
         self.begun[key] = True
-        self.todo.append(("keep", key, None))
+        # No expression has such a head: this is read when the value is there, and keeps it.
+        self.todo.append(("read", ("keep", key), None))
         self.todo.append(("read", chosen.constants[word], Scene(chosen, {}, deep + 1)))
 
-    def call(self, expression, scene):
-        """Call a function whose arguments have been read."""
-        many = len(expression[-1])
-        first = len(self.worths) - many
-        args = self.worths[first:]
-        del self.worths[first:]
+    def call(self, expression, args, scene):
+        """Call a function of the same definition or of an inner use."""
         if expression[0] == "own":
             chosen, word = scene.chosen, expression[1]
         else:
-            chosen, word = self.ask(expression, scene, many), expression[3]
-        self.meter.tick(scene.deep + 1)
-        parameters, body = chosen.functions[(word, many)]
-        self.todo.append(("read", body, Scene(chosen, dict(zip(parameters, args)), scene.deep + 1)))
+            chosen, word = self.ask(expression, scene, len(args)), expression[3]
+        self.enter(chosen.functions[(word, len(args))], args, Scene(chosen, {}, scene.deep))

@@ -30,7 +30,7 @@ def outcome(source, names):
 class TestExamples(unittest.TestCase):
     def test_examples(self):
         files = sorted(FOLDER.glob("*.txt"))
-        self.assertEqual(20, len(files))
+        self.assertEqual(25, len(files))
         for file in files:
             names = {}
             rows = examples(file.read_text())

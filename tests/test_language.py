@@ -25,7 +25,8 @@ INTERFACE = {
     "instances": "asked roots instances", "library": "Library looked", "apart": "apart",
     "sights": "looks measure sight sights term_of single", "steps": "sort_of is_sort outcomes asks", "table": "sorts met road",
     "rows": "bad least_names dead chooser needed", "rings": "endless no_value", "well": "some_well", "books": "counts book unlike",
-    "papers": "is_paper",
+    "papers": "is_paper", "verdict": "verdict", "core": "made", "link": "link is_linked run", "edges": "post solves states counters",
+    "drawn": "draw",
 }
 # The interface names this argument as it names a function of the file.
 SAME_NAMES = [("instances", "instances", "roots"), ("sights", "term_of", "sight"), ("sights", "single", "sight")]
@@ -141,7 +142,7 @@ class TestLanguage(unittest.TestCase):
             for node in ast.walk(tree):
                 if isinstance(node, ast.Name) and hasattr(builtins, node.id):
                     self.assertIn(node.id, BUILTINS, (name, node.lineno))
-                if isinstance(node, ast.Attribute):
+                if isinstance(node, ast.Attribute) and node.attr != "__init__":
                     self.assertFalse(node.attr.startswith("__"), (name, node.lineno))
                 if isinstance(node, ast.FunctionDef) and node.name.startswith("_"):
                     self.assertIn(node.name, ["__init__", "__len__"])

@@ -29,6 +29,7 @@ class RichMaker(Maker):
 
     ONE = False
     STOP = 0.35
+    ELSEWHERE = 0.15
     MEMBERS = [("  const v = ", [".v"]), ("  fun go(x) = ", [".v", ".go(x)", ".go(1)"]), ("  const w = v+", [".v"])]
     VIEWS = [[("base",)], [("base",), ("more",)], [("more",), ("other",)], [("base",), ("more",), ("other",), ("more", "other")], [("base",), ("base",)]]
 
@@ -97,9 +98,17 @@ class RichMaker(Maker):
         for generic in generics:
             for number in range(self.pick([1, 2, 3, 3, 4])):
                 lines = self.definition(generic, generics, number == 0 and self.chance.random() < 0.9)
-                elsewhere = number and self.chance.random() < 0.15
+                elsewhere = number and self.chance.random() < self.ELSEWHERE
                 texts["more" if "C" in lines[0] else self.pick(["more", "other"]) if elsewhere else "base"] += lines
         return {word: "\n".join(lines) for word, lines in texts.items()}, self.pick(self.VIEWS)
+
+
+class ViewsMaker(RichMaker):
+    """Libraries whose views have unlike definitions, of which few ask anything."""
+
+    STOP = 0.65
+    ELSEWHERE = 0.6
+    VIEWS = [[("base",), ("more",), ("other",)], [("more",), ("other",)], [("base",), ("other", "more")]]
 
 
 class OneMaker(RichMaker):

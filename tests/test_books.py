@@ -11,7 +11,7 @@ from mostspecial.programs import Program
 from mostspecial.steps import sort_of
 from mostspecial.terms import Names
 from mostspecial.termtexts import read_terms
-from tests.makers import RichMaker
+from tests.makers import RichMaker, ViewsMaker
 from tests.readers import Reading
 from tests.tools import ODD_VALUES, NarrowStack, deep, raised, told, type_of, wide
 from tests.trials import MachineMaker, Maker, World, random_library, random_terms
@@ -289,7 +289,7 @@ class TestUnlike(unittest.TestCase):
     def test_by_reading(self):
         chance, counted = random.Random(182), {None: 0, "told": 0}
         while min(counted.values()) < 12 or sum(counted.values()) < 60:
-            given = random_library(chance, maker=chance.choice([RichMaker, RichMaker, Maker, MachineMaker]))
+            given = random_library(chance, maker=chance.choice([RichMaker, ViewsMaker, Maker, MachineMaker]))
             if len(given.views) == 1:
                 continue
             try:

@@ -9,7 +9,7 @@ from mostspecial.instances import instances
 from mostspecial.pairs import pair_of
 from mostspecial.places import definitions_in, shapes_of
 from mostspecial.table import MOST_ASKS, road_back
-from mostspecial.terms import scan_places
+from mostspecial.terms import are_use_terms
 from mostspecial.termtexts import write_term
 
 
@@ -26,8 +26,7 @@ class Counting:
         """Whether any values are a generic that a text tells, and the terms of a use of it."""
         if not isinstance(generic, str) or generic not in self.shapes:
             return False
-        found = scan_places(terms, self.shapes[generic].kinds, self.names)
-        return found is not None and found[1] == 0
+        return are_use_terms(terms, self.shapes[generic].kinds, self.names)
 
     def text_of(self, generic, terms):
         """What counts of a use, as a string."""

@@ -5,7 +5,7 @@ from mostspecial.expressions import all_in
 from mostspecial.matches import matching, more_special, put_in_all
 from mostspecial.programs import faults, view
 from mostspecial.sources import expression_of
-from mostspecial.terms import is_whole, scan_places
+from mostspecial.terms import are_use_terms, is_whole, scan_places
 from mostspecial.termtexts import write_terms
 
 MOST_STEPS = 1000
@@ -99,8 +99,7 @@ class Choices:
         """Whether any values are a generic of the view and the terms of a use of it, within the limits."""
         if not isinstance(generic, str) or generic not in self.kinds:
             return False
-        found = scan_places(terms, self.kinds[generic], self.names)
-        return found is not None and found[1] == 0
+        return are_use_terms(terms, self.kinds[generic], self.names)
 
     def check_use(self, generic, terms):
         """Raise InvalidUse unless these are a use of the view."""

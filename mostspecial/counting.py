@@ -12,7 +12,7 @@ class Signs:
         self.more = "(S,..?c)" if piles else "S<?c>"
         self.one = "(..?c)" if piles else "?c"
         self.other = "(..?d)" if piles else "?d"
-        self.lists = {"once": 2, "twice": 1}.get(rule, 0)
+        self.lists = 2 if rule == "once" else 1 if rule == "twice" else 0
         # What a counter becomes that goes up: what the second list says of it, if there is one.
         self.grown = "?w" if rule == "once" else self.more
 

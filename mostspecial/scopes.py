@@ -4,7 +4,7 @@ from mostspecial.eyes import eyes_of
 from mostspecial.reaches import all_sights
 from mostspecial.samples import samples_of
 from mostspecial.sizes import MOST_SIGHTS
-from mostspecial.terms import is_whole, scan_places
+from mostspecial.terms import are_use_terms, is_whole
 
 
 class ViewNames:
@@ -67,8 +67,7 @@ class Scope:
         """Whether any values are a generic of the view and the terms of a use of the view."""
         if not isinstance(generic, str) or generic not in self.shapes:
             return False
-        found = scan_places(terms, self.shapes[generic].kinds, self.names)
-        return found is not None and found[1] == 0
+        return are_use_terms(terms, self.shapes[generic].kinds, self.names)
 
     def sort_of(self, generic, terms):
         """The sort of a use."""

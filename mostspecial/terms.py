@@ -196,6 +196,11 @@ def is_pattern(value, kinds, names):
 def is_use(value, kinds, names):
     """Whether a value is a use of a generic with places of these kinds."""
     check_kinds(kinds)
+    return are_use_terms(value, kinds, names)
+
+
+def are_use_terms(value, kinds, names):
+    """Whether a value is a tuple of closed terms for places of these kinds."""
     found = scan_places(value, kinds, names)
     return found is not None and found[1] == 0
 

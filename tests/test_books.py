@@ -11,25 +11,19 @@ from mostspecial.programs import Program
 from mostspecial.steps import sort_of
 from mostspecial.terms import Names
 from mostspecial.termtexts import read_terms
+from tests import tools
 from tests.makers import RichMaker, ViewsMaker
 from tests.readers import Reading
-from tests.tools import ODD_VALUES, NarrowStack, deep, raised, told, type_of, wide
+from tests.tools import BASE_NAMES, NarrowStack, ODD_VALUES, deep, program, raised, told, type_of, wide
 from tests.trials import MachineMaker, Maker, World, random_library, random_terms
 
 A = type_of("A")
 EMPTY = ("list", (), None)
-NAMES = "name A 0\nname B 1\nname P 2"
 TERM_NAMES = Names([("A", 0), ("B", 1), ("P", 2)])
 
 
-def program(*rows, **units):
-    return Program({"base": "\n".join([NAMES, *rows])}, {word: "see base\n" + units[word] for word in units})
-
-
 def library(*rows, views=(("base",), ("more",)), **others):
-    headers = {"base": "\n".join([NAMES, *rows])}
-    headers.update({word: "see base\n" + others[word] for word in others})
-    return Library(headers, views)
+    return tools.library(*rows, views=views, **others)
 
 
 class TestCounts(unittest.TestCase):
@@ -70,7 +64,7 @@ class TestCounts(unittest.TestCase):
         self.check(given, "g", "A", "g<>")
         given = program(*rows, main="print 1", own="gen g<type>\nfor g<A>\nfor f<?x,B<?y>>\n  const v = g<?x>.v")
         self.check(given, "f", "A,B<A>", "f<A,B<A>>")
-        headers = {"base": "\n".join([NAMES, *rows]), "more": "see base\nfor f<A,?y>"}
+        headers = {"base": "\n".join([BASE_NAMES, *rows]), "more": "see base\nfor f<A,?y>"}
         self.assertEqual("f<A>", counts(Program(headers, {"main": "see base\nprint f<A,A>.v"}), "f", (A, A)))
 
     def test_names_of_all_texts(self):

@@ -7,16 +7,10 @@ from mostspecial.core import made
 from mostspecial.early import constants
 from mostspecial.instances import instances, roots
 from mostspecial.link import is_linked, link
-from mostspecial.programs import Program
-from tests.tools import ODD_VALUES, NarrowStack, raised, told, type_of
+from tests.tools import NarrowStack, ODD_VALUES, program, raised, told, type_of
 
 A = type_of("A")
 EMPTY = ("list", (), None)
-NAMES = "name A 0\nname B 1\nname P 2"
-
-
-def program(*rows, **units):
-    return Program({"base": "\n".join([NAMES, *rows])}, {word: "see base\n" + units[word] for word in units})
 
 
 def num(number):

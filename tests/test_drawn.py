@@ -4,20 +4,11 @@ import random
 import unittest
 
 from mostspecial.drawn import draw
-from mostspecial.library import Library
 from mostspecial.steps import outcomes
 from mostspecial.table import sorts
 from tests.makers import RichMaker
-from tests.tools import ODD_VALUES, NarrowStack, raised, told
+from tests.tools import NarrowStack, ODD_VALUES, library, raised, told
 from tests.trials import random_library
-
-NAMES = "name A 0\nname B 1\nname P 2"
-
-
-def library(*rows, views=(("base",),), **others):
-    headers = {"base": "\n".join([NAMES, *rows])}
-    headers.update({word: "see base\n" + others[word] for word in others})
-    return Library(headers, views)
 
 
 class TestDraw(unittest.TestCase):

@@ -9,14 +9,9 @@ from mostspecial.link import is_linked, link, run
 from mostspecial.plain import plain
 from mostspecial.programs import Program
 from tests.changes import with_one_replaced
-from tests.tools import ODD_VALUES, NarrowStack, deep, raised, told
+from tests.tools import BASE_NAMES, NarrowStack, ODD_VALUES, deep, program, raised, told
 
-NAMES = "name A 0\nname B 1\nname P 2"
 GREATEST = 10 ** 30
-
-
-def program(*rows, **units):
-    return Program({"base": "\n".join([NAMES, *rows])}, {word: "see base\n" + units[word] for word in units})
 
 
 def num(number):
@@ -276,7 +271,7 @@ def random_program(chance):
             prints = random_expression(chance, 3, ["f<3>.v", "g<B<A>,1>.w", "h<(A,B<A>)>.u"], ["2"], ["f<2>.go(@)", "g<B<B<A>>,0>.go(@)", "h<(B<A>)>.go(@)", "f<4>.be(@)"])
             lines.append("print " + prints)
         units[word] = "\n".join(line for line in lines if len(line) <= 200)
-    return {"base": "\n".join([NAMES, *rows])}, units
+    return {"base": "\n".join([BASE_NAMES, *rows])}, units
 
 
 class TestPlain(unittest.TestCase):

@@ -16,18 +16,11 @@ from mostspecial.termtexts import read_terms
 from tests.changes import Changer, followed, in_order, with_one_doubled, with_one_less, with_one_replaced, with_one_swapped
 from tests.makers import OneMachineMaker, RichMaker
 from tests.naive import is_good_part
-from tests.tools import ODD_VALUES, NarrowStack, raised, told, type_of
+from tests.tools import BASE_NAMES, NarrowStack, ODD_VALUES, library, raised, told, type_of
 from tests.trials import MachineMaker, Maker, random_library
 
-NAMES = "name A 0\nname B 1\nname P 2"
 TERM_NAMES = Names([("A", 0), ("B", 1), ("P", 2)])
 A = type_of("A")
-
-
-def library(*rows, views=(("base",),), **others):
-    headers = {"base": "\n".join([NAMES, *rows])}
-    headers.update({word: "see base\n" + others[word] for word in others})
-    return Library(headers, views)
 
 
 PILE = ["gen start<type>", "inner gen run<pile,type>", "for start<?t>", "  const v = run<(A,?t,A),?t>.v", "for run<(A,..?r),?c>", "  const v = run<(..?r),?c>.v", "  const w = v+2",
@@ -328,7 +321,7 @@ class TestMore(unittest.TestCase):
         # With C, f has another choice, but no use of both views has C.
         given = library("gen f<type>", "for f<?t>", "  const v = 1", more="name C 0\nfor f<C>\n  const v = 2", views=[("base",), ("more",)])
         self.assertTrue(is_paper(given, paper_of(given)))
-        given = Library({"base": NAMES + "\nname C 0\ngen f<type>\nfor f<?t>\n  const v = 1", "more": "see base\nfor f<C>\n  const v = 2"}, [("base",), ("more",)])
+        given = Library({"base": BASE_NAMES + "\nname C 0\ngen f<type>\nfor f<?t>\n  const v = 1", "more": "see base\nfor f<C>\n  const v = 2"}, [("base",), ("more",)])
         self.assertFalse(is_paper(given, paper_of(given)))
 
 

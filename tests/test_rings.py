@@ -11,18 +11,11 @@ from mostspecial.terms import Names
 from mostspecial.walks import walks_of
 from tests.makers import OneMachineMaker, RichMaker
 from tests.readers import Reading
-from tests.tools import ODD_VALUES, NarrowStack, raised, told, type_of
+from tests.tools import NarrowStack, ODD_VALUES, library, raised, told, type_of
 from tests.trials import MachineMaker, Maker, World, random_library, random_terms
 
-NAMES = "name A 0\nname B 1\nname P 2"
 TERM_NAMES = Names([("A", 0), ("B", 1), ("P", 2)])
 A = type_of("A")
-
-
-def library(*rows, views=(("base",),), **others):
-    headers = {"base": "\n".join([NAMES, *rows])}
-    headers.update({word: "see base\n" + others[word] for word in others})
-    return Library(headers, views)
 
 
 # From start on, loop lies behind as many asks as first: count goes from first down to 0, and four times from 6.

@@ -24,17 +24,10 @@ from mostspecial.verdict import verdict
 from tests.makers import OneMachineMaker, RichMaker, ViewsMaker
 from tests.readers import Reading
 from tests.test_papers import LIBRARIES
-from tests.tools import NarrowStack, raised, told, type_of
+from tests.tools import NarrowStack, library, raised, told, type_of
 from tests.trials import MachineMaker, Maker, World, random_library, random_terms
 
-NAMES = "name A 0\nname B 1\nname P 2"
 A = type_of("A")
-
-
-def library(*rows, views=(("base",),), **others):
-    headers = {"base": "\n".join([NAMES, *rows])}
-    headers.update({word: "see base\n" + others[word] for word in others})
-    return Library(headers, views)
 
 
 def counted(first, *loop):

@@ -4,23 +4,15 @@ import random
 import unittest
 
 from mostspecial.errors import InvalidView, TooLong
-from mostspecial.library import Library
 from mostspecial.steps import sort_of
 from mostspecial.walks import walks_of
 from mostspecial.well import asks_two, some_well
 from tests.makers import CallMaker, OneMachineMaker, OneMaker
 from tests.readers import Reading
-from tests.tools import ODD_VALUES, NarrowStack, raised, told, type_of
+from tests.tools import NarrowStack, ODD_VALUES, library, raised, told, type_of
 from tests.trials import World, random_library, random_terms
 
-NAMES = "name A 0\nname B 1\nname P 2"
 A = type_of("A")
-
-
-def library(*rows, views=(("base",),), **others):
-    headers = {"base": "\n".join([NAMES, *rows])}
-    headers.update({word: "see base\n" + others[word] for word in others})
-    return Library(headers, views)
 
 
 def least_asks(given, k, world, made):

@@ -4,6 +4,8 @@ import itertools
 import sys
 
 from mostspecial.errors import ChoiceError, InvalidWord
+from mostspecial.library import Library
+from mostspecial.programs import Program
 from mostspecial.terms import Names
 from mostspecial.termtexts import read_terms
 
@@ -20,6 +22,21 @@ ODD_VALUES = [
     ("type", None, ()), ("num", 3), (("type", "A", ()), ("type", "B", (None,))), {"type": "A"}, [["type"], {"a": ()}],
     NAMES, InvalidWord("x"), ((((((((),),),),),),),), ("in", 0), ("in", True),
 ]
+
+
+BASE_NAMES = "name A 0\nname B 1\nname P 2"
+
+
+def library(*rows, views=(("base",),), **others):
+    """A library of a header base with some lines behind its names, and of further headers that see it."""
+    headers = {"base": "\n".join([BASE_NAMES, *rows])}
+    headers.update({word: "see base\n" + others[word] for word in others})
+    return Library(headers, views)
+
+
+def program(*rows, **units):
+    """A program of such a header base, and of units that see it."""
+    return Program({"base": "\n".join([BASE_NAMES, *rows])}, {word: "see base\n" + units[word] for word in units})
 
 
 def terms(text, kinds, names=NAMES):

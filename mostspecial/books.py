@@ -90,7 +90,7 @@ def unlike_rows(library, k, j):
     flows = [flow_of(library, view, False) for view in (k, j)]
     pair, found = pair_of(library, k, j), []
     for sort in flows[0].first:
-        if sort[0] in pair.scope.shapes and sort in flows[1].first:
+        if sort in flows[1].first:
             costs = [flow.costs[flow.first[sort]] for flow in flows]
             cost = (max([asks for asks, names in costs]), sum([names for asks, names in costs]))
             found.extend([(cost, k, j, sort, group) for group in pair.unlike_groups(sort)])

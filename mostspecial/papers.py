@@ -27,7 +27,7 @@ def is_paper(library, value):
 def agree(library, k, j, parts):
     """Whether no use of two views, of a sort that the parts of both hold, has unlike choices in them."""
     pair = pair_of(library, k, j)
-    shared = [sort for sort in parts[k].numbers if sort in parts[j].numbers and sort[0] in pair.scope.shapes]
+    shared = [sort for sort in parts[k].numbers if sort in parts[j].numbers]
     return not any([bool(pair.unlike_groups(sort)) for sort in shared])
 
 

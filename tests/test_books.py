@@ -241,6 +241,10 @@ class TestUnlike(unittest.TestCase):
         # Nobody comes to g<B<?>>.
         self.check(library("gen f<type>", "inner gen g<type>", "for f<?t>", "  const v = g<A>.v", "for g<?t>", "  const v = 1", more="for g<B<?t>>\n  const v = 2"), None)
 
+    def test_definitions_that_are_all_in_one_view_alone(self):
+        self.check(library("gen f<type>", one="for f<?t>\n  const v = 1", two="for f<?t>\n  const v = 1", views=[("one",), ("two",)]), (0, "f", 1, "f"))
+        self.check(library("gen f<type>", one="for f<A>\n  const v = 1", two="for f<B<?t>>\n  const v = 1", views=[("one",), ("two",)]), None)
+
     def test_equal_types_tell_apart(self):
         given = library("gen f<type,type>", "for f<?s,?t>", more="for f<?t,?t>")
         found = self.check(given, (0, "f", 1, "f"))
@@ -269,6 +273,12 @@ class TestUnlike(unittest.TestCase):
             # In both views there is a near open use.
             both = library(*rows, near=near, more=far, views=[("near",), ("near", "more")])
             self.check(both, (0, "near", 1, "near"))
+        # Of the numbers in two views the greater one counts.
+        rows = [row for row in down if "start" not in row and "{}" not in row]
+        starts = {word: f"gen {word}<>\nfor {word}<>\n  const v = count<{first},4>.v" for word, first in [("one", 1), ("two", 4)]}
+        starts["two"] += "\n" + far
+        for views in [[("one",), ("two",)], [("two",), ("one",)]]:
+            self.assertEqual(("TooLong", 34), told(raised(unlike, library(*rows, **starts, views=views))))
         # A near pair counts ahead of a far one.
         given = library(*[row.format(6) for row in down], more=far, other="for count<3,#b>\n  const v = 2", third="for count<5,4>\n  const v = 7", views=[("base",), ("more",), ("third",)])
         self.check(given, (0, "start", 2, "start"))

@@ -45,6 +45,10 @@ class TestFunctions(unittest.TestCase):
         given = program("gen f<>", "for f<>", "  const v = 7", "  fun go(v) = v+f<>.v", "  fun be(w) = v", main="print f<>.go(1)")
         self.assertEqual({"f<>.go": (("v",), ("add", name("v"), num(7))), "f<>.be": (("w",), num(7))}, self.functions(given))
 
+    def test_number_variables_with_the_words_of_parameters(self):
+        given = program("gen f<num>", "for f<#x>", "  const v = #x", "  fun go(x,v) = x+#x*v", main="print f<4>.go(1,2)")
+        self.assertEqual({"f<4>.go": (("x", "v"), ("add", name("x"), ("mul", num(4), name("v"))))}, self.functions(given))
+
     def test_calls(self):
         given = program("gen f<type>", "for f<B<?t>>", "  fun go(x) = be(f<?t>.go(x),f<P<?t,?t>>.go(go(x)))", "  fun be(x,y) = x*y", "for f<?t>", "  fun go(x) = x", main="print f<B<A>>.go(4)")
         first = ("call", "f<A>.go", (name("x"),))

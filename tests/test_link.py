@@ -154,7 +154,7 @@ class TestIsLinked(unittest.TestCase):
         for call, good in [(("call", "f", (ONE, ONE)), True), (("call", "none", ()), True), (("call", "f", (ONE,)), False), (("call", "f", (ONE, ONE, ONE)), False), (("call", "f", ()), False), (("call", "g", ()), False),
                            (("call", "none", (ONE,)), False), (("call", "f", [ONE, ONE]), False), (("call", "f"), False), (("call", "f", (ONE, ONE), ONE), False), (("own", "none", ()), False), (("call", ("none",), ()), False),
                            (("call", None, ()), False), (("const", "f", (), "v"), False), (("of", "n"), False), (("add", ONE), False), (("add", ONE, ONE, ONE), False), (("if", ONE, ONE), False), (("less", ONE, ONE), True),
-                           (("neg", ONE), False), ((), False), ("num", False), (("num",), False), (("num", 1, 1), False), (("name",), False)]:
+                           (("neg", ONE), False), ((), False), ("num", False), (("call", ["f"], ()), False), (("call", {}, ()), False), (("name", ["x"]), False), (("name", {}), False), (([], ONE), False), (("num",), False), (("num", 1, 1), False), (("name",), False)]:
             (self.good if good else self.wrong)((functions, [call]))
             (self.good if good else self.wrong)(({**functions, "more": (("x",), ("sub", X, call))}, []))
 

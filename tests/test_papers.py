@@ -25,7 +25,12 @@ A = type_of("A")
 
 PILE = ["gen start<type>", "inner gen run<pile,type>", "for start<?t>", "  const v = run<(A,?t,A),?t>.v", "for run<(A,..?r),?c>", "  const v = run<(..?r),?c>.v", "  const w = v+2",
         "for run<(B<?x>,..?r),?c>", "  const v = run<(A,A,..?r),?c>.w", "  const w = 1", "for run<(?x,..?r),?c>", "  const v = 1", "  const w = 1", "for run<(),?c>", "  const v = 1", "  const w = 2"]
+STATES = ["gen start<type,type>", "inner gen run<num,pile,type,type>", "inner gen end<pile,type>", "for start<?c,?d>", "  const v = run<0,(P<A,A>,B<A>),?c,?d>.v", "for run<0,(P<A,A>,..?r),?c,?d>",
+          "  const v = run<1,(A,P<A,A>,..?r),?c,?d>.v+w", "  const w = 2", "for run<1,(A,..?r),?c,?d>", "  const v = run<2,(B<A>,A,B<A>,..?r),?d,B<?c>>.w", "for run<2,(B<A>,..?r),?c,?d>", "  const w = run<3,(..?r),?c,B<?d>>.u",
+          "for run<3,(A,..?r),?c,?d>", "  const u = run<4,(..?r),?d,A>.v+1", "for run<4,(B<A>,..?r),?c,?d>", "  const v = 3", "  const u = end<(..?r),?c>.v", "for run<#n,(..?r),?c,?d>", "  const v = 1", "  const u = v",
+          "for end<(..?r),?c>", "  const v = 1"]
 LIBRARIES = {
+    "states": library(*STATES),
     "nothing": Library({}, [()]),
     "two views of nothing": Library({}, [(), ()]),
     "constants": library("gen f<type>", "for f<B<?t>>", "  const v = w+f<?t>.u", "  const w = 2*f<?t>.w", "  const u = 3", "for f<?t>", "  const u = 1", "  const w = u+f<A>.u"),
@@ -179,7 +184,31 @@ class TestForm(unittest.TestCase):
         # A sort without a first item has no ways.
         for other in paper[0]:
             if other[0][2] in (None, "()"):
-                self.assertFalse(is_paper(given, (rows_with(paper[0], (other[0], (way,), other[2])),)))
+                for threads in (way[4], ()):
+                    self.assertFalse(is_paper(given, (rows_with(paper[0], (other[0], ((*way[:4], threads),), other[2])),)))
+
+    def test_ways_that_nobody_goes(self):
+        # Nothing is ever laid on what is told here, so these ways must only have the form of ways.
+        given = library("gen f<num>", "for f<#n>", "  const v = 1", "inner gen run<num,pile,type>", "for run<0,(A,..?r),?c>", "  const v = 1", "for run<#n,(..?r),?c>", "  const w = 1")
+        paper = paper_of(given)
+        sort = sort_of(given, 0, "run", (0, ("list", (A,), None), A))
+        plain = sort[1]
+        numbers = ((1, 0), (2, 0), ("v", 0))
+        self.assertTrue(is_paper(given, ((*paper[0], (sort, (), numbers)),)))
+        good = [("run", plain, "zz", 7, ()), ("run", plain, "v", -1, ()), ("run", plain, "v", 0, ((1, 2, True), ("v", 1, False), (2, 2, True), (2, 2, False))), ("run", plain, "zz", -1, (("v", "zz", True),)),
+                ("run", (("far", 0),), "v", 10 ** 30, ())]
+        wrong = [("run", plain, "zz", -2, ()), ("run", plain, "zZ", 7, ()), ("run", plain, "", 7, ()), ("run", plain, "print", 7, ()), ("run", plain, "zz", True, ()), ("run", plain, "zz", "7", ()), ("f", (("small", 0),), "v", -1, ()),
+                 ("run", (), "v", -1, ()), ("run", (("small", 9),), "v", -1, ()), ("none", plain, "v", -1, ()), ("run", plain, "v", -1, ((0, 1, True),)), ("run", plain, "v", -1, ((1, 0, True),)), ("run", plain, "v", -1, (("w", "v", True),)),
+                 ("run", plain, "v", -1, (("v", "w", True),)), ("run", plain, "v", 0, (("v", "v", True),)), ("run", plain, "v", -1, ((1, 1, True), (1, 1, True))), ("run", plain, "v", -1, ((1, 1, 1),)), ("run", plain, "v", -1, ((1, 1),)),
+                 ("run", plain, "v", -1, ((True, 1, True),)), ("run", plain, "v", -1, ((1, True, True),)), ("run", plain, "v", -1, [(1, 1, True)]), ("run", plain, "v", -1, ([1, 1, True],)), ("run", list(plain), "v", -1, ()),
+                 ("run", plain, "v", -1), ("run", plain, "v", -1, (), ()), ["run", plain, "v", -1, ()], ("run", plain, "v", -1, None), ("run", plain, ("v",), -1, ()), ("run", plain, None, -1, ())]
+        for way in good:
+            self.assertTrue(is_paper(given, ((*paper[0], (sort, (way,), numbers)),)), way)
+            self.assertFalse(is_paper(given, ((*paper[0], (sort, (way, way[:4] + ((),)), numbers)),)), way)
+        self.assertTrue(is_paper(given, ((*paper[0], (sort, tuple(good), numbers)),)))
+        for way in wrong:
+            self.assertFalse(is_paper(given, ((*paper[0], (sort, (way,), numbers)),)), way)
+            self.assertFalse(is_paper(given, ((*paper[0], (sort, (*good, way), numbers)),)), way)
 
 
 class TestEdges(unittest.TestCase):
@@ -215,6 +244,27 @@ class TestEdges(unittest.TestCase):
             text = "\n".join(rows).split("{}")
             given = library(text[0] + pattern + text[1] + term + text[2] + other + text[3])
             self.assertEqual([expected], self.numbers(given, ("f", "B<A>,0") if pattern == "B<A>" else ("f", "B<P<A,A>>,0")))
+
+    def test_what_is_still_under_a_bare_pile(self):
+        rows = ["gen run<pile,type>", "for run<(),?c>", "  fun go(x) = x", "for run<(..?r),?c>", "  fun go(x) = on<{},B<?c>>.go(x)", "inner gen on<pile,type>", "for on<(..?r),?c>", "  fun go(x) = x"]
+        for term, known, unknown in [("(..?r)", 1, 1), ("(A,..?r)", 1, 1), ("(A,A)", 1, 0), ("()", 1, 0)]:
+            # The sort with A is known by its look, that with B<A> is not.
+            given = library(*[row.format(term) for row in rows], "gen f<type>", "for f<A>", "for f<?t>")
+            found = self.numbers(given, ("run", "(A),A"), ("run", "(B<A>),A"), ("run", "(),A"))
+            self.assertEqual([known, unknown, 0], [row[1] for row in found])
+
+    def test_ties_go_on_through_further_ways(self):
+        given = library(*STATES)
+        a, b, p = [sight(given, "type", term) for term in (A, type_of("B", A), type_of("P", A, A))]
+        rows = {row[0]: row[1:] for row in paper_of(given)[0]}
+        ways = {(sort[1][0][1], sort[2]): {way[:4]: set(way[4]) for way in told_ways} for sort, (told_ways, _) in rows.items() if sort[0] == "run"}
+        self.assertEqual({(4, b): {("end", (), "v", -1): {(1, 0, False), (2, 1, False), ("u", "v", True)}},
+                          (3, a): {("run", (("small", 4),), "v", -1): {(1, 1, False), (3, 2, False), ("u", "v", True)}},
+                          (2, b): {("run", (("small", 3),), "u", -1): {(1, 1, False), (2, 2, False), (3, 3, True), ("w", "u", True)}},
+                          # Here c goes to d, there again to d, then to c, and so to the place of end, by a greater term; d goes to c, and is dropped.
+                          (1, a): {("end", (), "v", -1): {(1, 0, False), (2, 1, True)}}, (0, p): {}}, ways)
+        # Behind v of start lie three constants, one after another.
+        self.assertEqual({0: 1, 1: 0, "v": 3}, dict(rows[("start", (), None)][1]))
 
     def test_ties_go_on_through_ways(self):
         rows = ["gen start<type,type>", "inner gen run<pile,type,type>", "for start<?a,?b>", "  const v = run<(A,B<A>),{}>.v", "for run<(A,..?r),?a,?b>", "  const v = run<(..?r),{}>.v",
@@ -264,6 +314,18 @@ class TestEdges(unittest.TestCase):
         given = library("inner " + rows[0], *[row.format("go") for row in rows[1:]])
         # Nobody lays a B<?> below A there.
         self.check(given, paper_of(given)[0], True)
+
+    def test_ways_of_ways_of_open_generics(self):
+        rows = ["gen run<pile>", "for run<(A,..?r)>", "  fun go(x) = on<(..?r)>.be(x)", "for run<(..?r)>", "  fun go(x) = x", "inner gen on<pile>", "for on<(A,..?r)>", "  fun be(x) = end<(..?r)>.so(x)", "for on<(..?r)>",
+                "  fun be(x) = x", "inner gen end<pile>", "for end<(..?r)>", "  fun so(x) = x", "for end<(B<?x>,..?r)>", "  fun {}(x) = 1"]
+        for word, good in [("so", True), ("go", False)]:
+            given = library(*[row.format(word) for row in rows])
+            self.check(given, paper_of(given)[0], good)
+            if good:
+                part = paper_of(given)[0]
+                for row in part:
+                    self.check(given, tuple(other for other in part if other != row), False)
+            self.assertEqual(3 * (1 + len(scope_of(given, 0).sights["type"])), len(paper_of(given)[0]))
 
     def test_further_ways(self):
         # The way of the first sort is also one by another sort: behind it the one item more is taken off.

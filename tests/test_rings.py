@@ -88,6 +88,24 @@ class TestGrowingPiles(Rings):
         self.endless(library(*rows[:3], "for run<(B<?x>,..?r)>", "  fun go(x) = run<(?x,B<A>,..?r)>.go(x)", "for run<(?x,..?r)>", "  fun go(x) = run<(..?r)>.go(x)"), None)
         self.endless(library(*rows[:3], "for run<(B<?x>,..?r)>", "  fun go(x) = run<(?x,B<A>,B<A>,..?r)>.go(x)", "for run<(?x,..?r)>", "  fun go(x) = run<(..?r)>.go(x)"), "run")
 
+    def test_an_unknown_item_under_a_bare_pile(self):
+        rows = ["gen run<pile,type>", "for run<(),?c>", "  fun go(x) = x", "for run<(..?r),?c>", "  fun go(x) = run<{}>.go(x)"]
+        for term, expected in [("(..?r),B<?c>", "run"), ("(..?r),?c", None), ("(A,..?r),A", "run"), ("(A,A),B<?c>", "run"), ("(),B<?c>", None)]:
+            given = library(*[row.format(term) for row in rows])
+            self.endless(given, expected)
+        # What is not laid is not handed on: so only the sort with A is on a ring.
+        given = library(*[row.format("(A,A),B<?c>") for row in rows])
+        self.assertEqual([sort_of(given, 0, "run", (("list", (A,), None), A))], list(walks_of(given, 0).rings))
+
+    def test_items_that_stay_laid_until_a_pile_is_begun(self):
+        rows = ["gen run<pile,type>", "inner gen mid<type>", "for run<(A,..?r),?c>", "  fun go(x) = run<(B<A>,{}..?r),?c>.go(x)", "for run<(B<A>,..?r),?c>", "  fun go(x) = {}.go(x)",
+                "for run<(..?r),?c>", "  fun go(x) = x", "for mid<?c>", "  fun go(x) = run<(A),{}>.go(x)"]
+        for laid, use, carried, expected in [("A,", "mid<?c>", "?c", None), ("", "mid<?c>", "?c", None), ("A,", "mid<?c>", "B<?c>", "run"), ("A,", "run<(..?r),?c>", "?c", None), ("A,A,", "run<(..?r),?c>", "?c", "run")]:
+            text = "\n".join(rows).split("{}")
+            given = library(text[0] + laid + text[1] + use + text[2] + carried + text[3])
+            self.endless(given, expected)
+            self.assertIn("run", self.rings(given))
+
     def test_begun_and_beside_on_the_ring(self):
         begun = ["inner gen once<>", "for once<>", "  fun go(x) = run<(A,A)>.go(x)", "for run<(A,..?r)>", "  fun go(x) = once<>.go(x)"]
         given = library(*self.PILE, *begun)
@@ -157,6 +175,33 @@ class TestGrowingCarried(Rings):
         rows = ["gen f<types,type>", "for f<(?x,..?r),?c>", "  fun go(x) = f<{},B<?c>>.go(x)", "for f<(),?c>", "  fun go(x) = x"]
         for term, expected in [("(?x,..?r)", "f"), ("(..?r)", None), ("(A,B<A>)", "f"), ("()", None)]:
             self.endless(library(*[row.format(term) for row in rows]), expected)
+
+    def test_several_uses_of_one_sort(self):
+        for one, two, expected in [("?c", "B<?c>", "f"), ("B<?c>", "?c", "f"), ("?c", "A", None), ("B<?c>", "A", "f"), ("A", "B<A>", None)]:
+            given = library("gen f<type,type>", "for f<?t,?c>", f"  fun go(x) = f<?t,{one}>.go(x)+f<?t,{two}>.go(x)")
+            self.endless(given, expected)
+
+    # The way out of A goes on through that of B<A>, and both are gone before P<A,A> lays A once more.
+    FURTHER = ["gen start<type,type>", "inner gen run<num,pile,type,type>", "for start<?c,?d>", "  fun go(x) = run<0,(P<A,A>),?c,?d>.go(x)", "for run<0,(P<A,A>,..?r),?c,?d>",
+               "  fun go(x) = run<1,(A,P<A,A>,..?r),?c,?d>.go(x)", "for run<1,(A,..?r),?c,?d>", "  fun go(x) = run<2,({}..?r),{}>.go(x)", "for run<2,(B<A>,..?r),?c,?d>", "  fun go(x) = run<3,(..?r),{}>.go(x)",
+               "for run<3,(P<A,A>,..?r),?c,?d>", "  fun go(x) = run<0,(P<A,A>,..?r),{}>.go(x)", "for run<3,(B<A>,..?r),?c,?d>", "  fun go(x) = run<2,(B<A>,..?r),?c,?d>.go(x)", "for run<#n,(..?r),?c,?d>",
+               "  fun go(x) = x"]
+
+    def test_on_ways_that_come_by_further_ways(self):
+        for laid, one, two, three, expected in [("B<A>,", "?c,?d", "?c,?d", "?c,?d", None), ("B<A>,", "B<?c>,?d", "?c,?d", "?c,?d", "start"), ("B<A>,", "?c,?d", "?c,B<?d>", "?c,?d", "start"),
+                                                ("B<A>,", "?d,?c", "?c,?d", "?d,?c", None), ("B<A>,", "B<?d>,?c", "?c,?d", "?d,?c", "start"), ("B<A>,", "B<?d>,A", "?c,?d", "?c,?d", None),
+                                                ("B<A>,", "B<?d>,A", "?d,?c", "?c,?d", "start"), ("B<A>,", "B<?c>,?d", "A,?d", "?c,?d", None), ("B<A>,B<A>,", "?c,?d", "?c,?d", "?c,?d", None),
+                                                ("B<A>,B<A>,", "?c,?d", "?c,B<?d>", "?c,?d", "start"), ("B<A>,B<A>,", "B<?c>,?d", "?d,A", "?c,?d", None), ("B<A>,B<A>,", "A,?d", "?d,B<?c>", "?c,?d", "start"),
+                                                ("B<A>,B<A>,B<A>,", "A,?d", "?d,B<?c>", "?c,?d", None)]:
+            text = "\n".join(self.FURTHER).split("{}")
+            given = library(text[0] + laid + text[1] + one + text[2] + two + text[3] + three + text[4])
+            self.endless(given, expected)
+            self.assertEqual(["run"], self.rings(given))
+            # The same with the definitions in another order.
+            lines = (text[0] + laid + text[1] + one + text[2] + two + text[3] + three + text[4]).split("\n")
+            heads = [at for at, line in enumerate(lines) if line.startswith("for")]
+            blocks = [lines[at:at + 2] for at in heads]
+            self.endless(library(*lines[:2], *[line for block in blocks[::-1] for line in block]), expected)
 
     def test_on_ways_out_of_piles(self):
         rows = ["gen start<type>", "inner gen run<pile,type>", "for start<?c>", "  fun go(x) = run<(A,P<A,A>),?c>.go(x)", "for run<(A,..?r),?c>", "  fun go(x) = run<(B<A>,A,..?r),{}>.go(x)",

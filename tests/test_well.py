@@ -122,6 +122,16 @@ class TestRings(Well):
             text = "\n".join(rows).split("{}")
             self.well(library(text[0] + first + text[1] + second), expected)
 
+    def test_a_ring_that_asks_for_more_than_what_leads_to_it(self):
+        rows = ["gen start<type>", "inner gen one<type>", "for start<B<?t>>", "  fun go(x) = one<?t>.go(x)", "for one<?t>", "  fun go(x) = one<?t>.go(x)+one<?t>.be(1)", "  fun {}(x) = x"]
+        self.well(library(*[row.format("be") for row in rows]), 1)
+        self.well(library(*[row.format("so") for row in rows]), None)
+        # Here what is asked first is laid on a pile and taken off again.
+        rows = ["gen start<type>", "inner gen run<pile>", "for start<B<?t>>", "  fun go(x) = run<(A)>.go(x)", "for run<(A,..?r)>", "  fun go(x) = run<(B<A>,A,..?r)>.go(x)+run<(B<A>,A,..?r)>.{}(1)", "  fun be(x) = x",
+                "for run<(B<A>,..?r)>", "  fun go(x) = run<(..?r)>.go(x)", "  fun be(x) = run<(..?r)>.be(1)"]
+        self.well(library(*[row.format("be") for row in rows]), 1)
+        self.well(library(*[row.format("so") for row in rows]), None)
+
     def test_rings_on_which_constants_have_no_values(self):
         rows = ["gen start<type>", "inner gen one<type>", "for start<B<?t>>", "  fun go(x) = one<?t>.v", "for one<?t>", "  const v = {}", "  const w = 1", "  fun be() = {}"]
         for first, second, expected in [("one<?t>.w", "one<?t>.v", 1), ("one<?t>.v", "1", None), ("1", "one<?t>.be()", 1), ("1", "1", 1)]:

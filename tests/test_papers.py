@@ -275,6 +275,37 @@ class TestEdges(unittest.TestCase):
             given = library(text[0] + one + text[1] + two + text[2] + three + text[3])
             self.assertEqual([expected], self.numbers(given, ("start", "A,A")))
 
+    def test_a_greater_tie_of_a_further_way(self):
+        rows = ["gen start<type>", "inner gen run<pile,type>", "for start<?c>", "  fun go(x) = run<(P<A,A>),?c>.go(x)", "for run<(P<A,A>,..?r),?c>", "  fun go(x) = run<(B<A>,..?r),{}>.go(x)",
+                "for run<(B<A>,..?r),?c>", "  fun go(x) = end<(..?r),{}>.go(x)", "for run<(..?r),?c>", "  fun go(x) = x", "inner gen end<pile,type>", "for end<(..?r),?c>", "  fun go(x) = x"]
+        for one, two, falls in [("?c", "?c", False), ("B<?c>", "?c", True), ("?c", "B<?c>", True), ("B<?c>", "B<?c>", True)]:
+            text = "\n".join(rows).split("{}")
+            given = library(text[0] + one + text[1] + two + text[2])
+            part = paper_of(given)[0]
+            self.check(given, part, True)
+            row = [row for row in part if row[0] == sort_of(given, 0, "run", (("list", (type_of("P", A, A),), None), A))][0]
+            self.assertEqual([{(0, 0, False), (1, 1, falls)}], [set(way[4]) for way in row[1]])
+            for thread, good in [((1, 1, falls), True), ((1, 1, not falls), False)]:
+                way = (*row[1][0][:4], ((0, 0, False), thread))
+                self.check(given, rows_with(part, (row[0], (way,), row[2])), good)
+
+    def test_a_list_beside_that_cannot_be_empty(self):
+        # Of the uses of go that have the second choice, none leads to a use of run with nothing on its pile.
+        rows = ["gen go<types>", "inner gen run<pile>", "for go<()>", "  const v = 1", "for go<(..?r)>", "  const v = run<(..?r)>.v", "for run<(?x,..?p)>", "  const v = 1"]
+        given = library(*rows)
+        part = paper_of(given)[0]
+        self.check(given, part, True)
+        self.assertNotIn("()", [row[0][2] for row in part])
+        self.check(given, tuple(row for row in part if row[0][0] == "go"), False)
+        # Here one does, so it must have a choice.
+        given = library(*rows[:2], *rows[4:])
+        self.check(given, paper_of(given)[0], False)
+        given = library(*rows[:2], *rows[4:], "for run<()>", "  const v = 2")
+        part = paper_of(given)[0]
+        self.check(given, part, True)
+        for row in part:
+            self.check(given, tuple(other for other in part if other != row), False)
+
     def test_what_stays_laid(self):
         rows = ["gen start<>", "inner gen run<num,pile>", "for start<>", "  fun go(x) = run<0,(A)>.go(x)", "for run<0,(A,..?r)>", "  fun go(x) = run<1,({}..?r)>.go(x)",
                 "for run<1,(A,..?r)>", "  fun go(x) = run<2,({}..?r)>.go(x)", "for run<#n,(..?r)>", "  fun go(x) = x"]

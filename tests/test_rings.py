@@ -274,6 +274,12 @@ class TestConstants(Rings):
             text = "\n".join(rows).split("{}")
             self.no_value(library(text[0] + one + text[1] + two + text[2]), expected)
 
+    def test_by_the_name_of_one_of_several_that_ask(self):
+        rows = ["gen f<>", "inner gen g<>", "for f<>", "  const v = g<>.x", "  const w = g<>.{}", "  const u = {}", "for g<>", "  const x = f<>.{}", "  const y = 1"]
+        for asked, named, back, expected in [("x", "v", "u", "f"), ("x", "w", "u", "f"), ("x", "v+w", "u", "f"), ("y", "v", "u", "f"), ("y", "w", "u", None), ("x", "1", "u", None), ("y", "1", "w", None)]:
+            text = "\n".join(rows).split("{}")
+            self.no_value(library(text[0] + asked + text[1] + named + text[2] + back + text[3]), expected)
+
     def test_a_constant_that_asks_for_one_on_a_ring(self):
         rows = ["gen f<type>", "inner gen g<>", "for f<B<?t>>", "  const v = g<>.v", "for f<?t>", "  const v = 1", "for g<>", "  const v = g<>.v"]
         found = self.no_value(library(*rows), "f")

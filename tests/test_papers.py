@@ -375,6 +375,27 @@ class TestEdges(unittest.TestCase):
         self.assertNotIn(("run", (), other), ways)
 
 
+    def test_each_use_of_a_sort_has_a_choice(self):
+        rows = ["gen f<type,type>", "for f<?s,?t>", "  const v = 1", "for f<?t,?t>", "  const v = 2", "for f<?s,B<?t>>", "  const v = 3", "for f<B<?t>,B<?t>>", "  const v = 4"]
+        for left, good in [((), True), ((1, 2), False), ((7, 8), False), ((5, 6), True), ((3, 4, 7, 8), True), ((1, 2, 5, 6, 7, 8), False)]:
+            given = library(*[row for at, row in enumerate(rows) if at not in left])
+            self.check(given, paper_of(given)[0], good)
+
+    def test_each_choice_of_a_sort_has_what_is_asked(self):
+        rows = ["gen f<type,type>", "inner gen g<type,type>", "for f<?s,?t>", "  {}", "for g<?s,?t>", "  const v = 1", "  fun go(x) = x", "for g<?t,?t>", "  const {} = 1", "  fun go({}) = 1"]
+        for asking, word, parameters, good in [("const v = g<?s,?t>.v", "v", "x", True), ("const v = g<?s,?t>.v", "w", "x", False), ("const w = 1", "w", "", True), ("fun go(x) = g<?s,?t>.go(x)", "w", "y", True),
+                                               ("fun go(x) = g<?s,?t>.go(x)", "v", "", False), ("fun go(x) = g<?s,?t>.go(x)", "v", "x,y", False)]:
+            text = "\n".join(rows).split("{}")
+            given = library(text[0] + asking + text[1] + word + text[2] + parameters + text[3])
+            self.check(given, paper_of(given)[0], good)
+        # Likewise what lies behind a way out of an open use.
+        rows = ["gen run<type,type,pile>", "inner gen end<type,type,pile>", "for run<?s,?t,(A,..?p)>", "  const v = end<?s,?t,(..?p)>.v", "for run<?s,?t,(..?p)>", "for end<?s,?t,(..?p)>", "  const v = 1",
+                "for end<?t,?t,(..?p)>", "  const {} = 1"]
+        for word, good in [("v", True), ("w", False)]:
+            given = library(*[row.format(word) for row in rows])
+            self.check(given, paper_of(given)[0], good)
+
+
 class TestMore(unittest.TestCase):
     def test_sorts_beyond_those_that_are_needed(self):
         given = library("gen f<num>", "for f<0>", "  const v = 1", "inner gen g<num,type>", "for f<#n+1>", "  const v = 1", "for g<0,?c>", "  const v = g<1,B<?c>>.v", "for g<2,?c>", "  const v = g<0,?c>.v",

@@ -8,7 +8,7 @@ from mostspecial.library import Library
 from mostspecial.sights import term_of
 from mostspecial.steps import is_sort, sort_of
 from mostspecial.table import met, road, sorts
-from mostspecial.terms import Names
+from mostspecial.terms import Names, is_use
 from mostspecial.termtexts import read_terms
 from tests.tools import NarrowStack, ODD_VALUES, deep, raised, told, type_of
 from tests.trials import MachineMaker, World, count_of, random_library, random_terms
@@ -169,6 +169,42 @@ class TestPiles(Roads):
             terms = use_of_sort(given, sort)
             self.road(given, sort[0], terms, road(given, 0, sort[0], terms)[0])
 
+    def test_lists_of_which_more_is_known_than_the_use_tells(self):
+        # That the first item of the pile is A does not tell which list stood beside, but what asks for it does.
+        for known, first, behind in [("(A,A,A)", "(A)", "A"), ("(A,B<A>,P<A,A>)", "(A)", "B<A>"), ("(B<B<A>>,A)", "(B<B<A>>)", "A"), ("(A)", "(A)", None)]:
+            given = library("gen start<num>", "inner gen f<types>", "inner gen run<pile>", "inner gen on<pile>", "for start<#n>", f"  const v = f<{known}>.v", "for f<(..?l)>", "  const v = run<(..?l)>.v",
+                            "for run<(?x,..?r)>", "  const v = on<(..?r)>.v", "for on<(..?r)>")
+            self.road(given, "run", first, 2)
+            self.road(given, "on", f"({behind or ''})", 3)
+            for text in ["(A)", "(B<A>)", "(P<A,A>)", "(B<B<A>>)", "()"]:
+                if text != first:
+                    self.road(given, "run", text, None)
+                if text != f"({behind or ''})":
+                    self.road(given, "on", text, None)
+
+    def test_lists_that_are_long_enough(self):
+        # Only lists with three items and more come to run.
+        given = library("gen start<types,type>", "inner gen run<pile,type>", "for start<(..?l),?c>", "  const v = run<(B<A>,..?l),?c>.v", "for start<(?x,?y),?c>", "for start<(?x),?c>", "for start<(),?c>",
+                        "for run<(B<A>,..?r),?c>", "  const v = run<(..?r),?c>.v", "for run<(A,..?r),?c>", "  const v = run<(..?r),?c>.v", "for run<(?x,..?r),?c>", "for run<(),?c>")
+        self.road(given, "run", "(P<A,A>),A", 2)
+        self.road(given, "run", "(A),A", 2)
+        self.road(given, "run", "(B<A>),A", 1)
+        word, start = self.road(given, "run", "(),A", 5)
+        self.assertEqual(3, len(start[0][1]))
+
+    def test_lists_below_what_is_laid_or_begun(self):
+        given = library("gen start<types>", "inner gen f<types,pile>", "inner gen g<pile>", "for start<(..?l)>", "  const v = f<(..?l),(A,B<A>)>.v", "for f<(P<A,A>,..?l),(A,..?r)>",
+                        "  const v = f<(..?l),(..?r)>.v+g<(A,..?l)>.v", "for f<(..?l),(A,..?r)>", "  const v = g<(..?r)>.v", "for f<(B<A>,..?l),(B<A>,..?r)>", "  const v = g<(..?l)>.v", "for f<(..?l),(..?r)>",
+                        "for g<(A,..?r)>", "  const v = g<(..?r)>.v", "for g<(?x,..?r)>", "for g<()>")
+        self.road(given, "g", "(B<A>)", 2)
+        self.road(given, "g", "(A)", 2)
+        self.road(given, "g", "(P<A,A>)", 3)
+        self.road(given, "g", "(B<B<A>>)", 3)
+        self.road(given, "g", "()", 3)
+        self.road(given, "f", "(A),(B<A>)", 2)
+        self.road(given, "f", "(P<A,A>),(B<A>)", 2)
+        self.road(given, "f", "(P<A,A>),()", None)
+
 
 def use_of_sort(given, sort):
     """The terms of a use of a sort, with carried places of no matter."""
@@ -205,6 +241,25 @@ class TestErrors(unittest.TestCase):
         asks, word, start = road(given, 0, "g", terms)
         self.assertEqual((1, "f", type_of("Other")), (asks, word, start[0]))
         self.assertNotEqual(start[0], start[1])
+        given = library("gen f<type,type>", "inner gen g<pile>", "for f<?t,?t>", "for f<?s,?t>", "  const v = g<(?s)>.v", "for g<(A,..?r)>")
+        asks, word, start = road(given, 0, "g", (("list", (type_of("Other"),), None),))
+        self.assertEqual((1, "f", type_of("Other")), (asks, word, start[0]))
+        self.assertNotEqual(start[0], start[1])
+
+    def test_strange_names_are_told_by_no_header(self):
+        # These are names that would else be taken for strange ones, with other counts, and such that the view does not have.
+        rows = ["gen f<type,type,pile>", "inner gen g<type,pile>", "for f<?s,?t,(..?r)>", "  const v = g<?s,(A,..?r)>.v", "for g<?s,(A,..?r)>", "  const v = g<?s,(..?r)>.w", "for g<A,()>"]
+        for names in ["name Other 1\nname Otherb 0\nname Otherc 2", "name Other 0\nname Otherb 3\nname Otherd 0"]:
+            for views in [[("base",)], [("base", "more")]]:
+                given = library(*rows, more=names, views=views)
+                others = Names([*TERM_NAMES.told, *[(row.split()[1], int(row.split()[2])) for row in names.split("\n")]])
+                for text in ["A,()", "B<A>,(A)", "P<A,A>,(B<A>)", "Zed,(Zed)"]:
+                    asks, word, start = road(given, 0, "g", read_terms(text, ("type", "types"), TERM_NAMES))
+                    self.assertEqual("f", word)
+                    sort_of(given, 0, "f", start)
+                    self.assertTrue(is_use(start, ["type", "type", "pile"], others))
+                    if views == [("base",)]:
+                        self.assertFalse([name for name, _ in others.told if name[0] == "O" and repr(name) in repr(start)], start)
 
     def test_great_uses(self):
         given = library("gen f<type>", "inner gen g<type>", "for f<B<?t>>", "  const v = g<?t>.v", "for g<B<?t>>", "  const v = g<?t>.v")

@@ -139,6 +139,16 @@ class TestLeastNames(Rows):
         self.assertEqual(3, least_names(library(*rows, "for f<2,(A,..?r)>", "  const w = 1"), 0))
         self.assertEqual(3, least_names(library(*rows, "for f<1,(B<?x>,..?r)>", "  const v = f<2,(?x,..?r)>.w"), 0))
 
+    def test_piles_that_must_have_an_item(self):
+        # What has an item asks for what has no choice; the item is looked at by the other definition alone.
+        rows = ["gen f<pile,type>", "inner gen e<pile>", "for f<(),?c>", "  const v = 1", "for f<(..?r),?c>", "  const v = e<{}>.v"]
+        for laid, expected in [("(A)", 1), ("()", 1), ("(..?r)", 1), ("(A,..?r)", 1)]:
+            self.assertEqual(expected, least_names(library(*[row.format(laid) for row in rows]), 0))
+        rows += ["for f<(A,..?r),?c>", "  const v = 1", "for f<(B<?x>,..?r),?c>", "  const v = f<(..?r),?c>.v"]
+        self.assertEqual(1, least_names(library(*[row.format("()") for row in rows]), 0))
+        rows += ["for f<(?x,..?r),?c>", "  const v = 1", "inner gen g<pile>", "for f<(B<A>,..?r),?c>", "  const v = g<(..?r)>.v", "for g<()>", "  const v = 1", "for g<(..?r)>", "  const v = e<()>.v"]
+        self.assertEqual(3, least_names(library(*[row.format("()") for row in rows]), 0))
+
     def test_fewest_asks_and_fewest_names_belong_to_other_uses(self):
         rows = ["gen f<type>", "for f<P<P<A,A>,P<A,A>>>", "  const v = f<A>.w", "inner gen g<type>", "for f<?t>", "  const v = g<?t>.v", "for g<?t>", "  const v = f<?t>.u"]
         self.bad(library(*rows), (1, "lacks"))

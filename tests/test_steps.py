@@ -140,6 +140,15 @@ class TestOutcomes(unittest.TestCase):
         row = sight(given, "types", read_term("(A)", "types", TERM_NAMES))
         self.assertEqual(((("base", 1),), True, False), outcomes(given, 0, ("f", (row,), types(given, "A")[0])))
 
+    def test_definitions_that_take_no_use_of_a_sort_together(self):
+        # P<A,A> has another sight than P<A,Zed>, so no use of this sort is taken by the first two together.
+        rows = ["gen f<type,type>", "gen g<type>", "for f<P<?a,?b>,?a>", "for f<P<?a,?b>,?b>", "for f<?s,?t>", "for g<P<A,A>>"]
+        self.check(((("base", 0), ("base", 1), ("base", 2)), False, False), rows, "P<A,Zed>", "A")
+        self.check(((), False, True), rows, "P<A,A>", "A")
+        self.check(((("base", 0), ("base", 1), ("base", 2)), False, True), rows, "P<A,Zed>", "Zed")
+        self.check(((("base", 0), ("base", 1), ("base", 2)), False, True), rows[:-1], "P<A,Zed>", "Zed")
+        self.check(((("base", 2),), False, False), rows, "A", "A")
+
     def test_sights_that_one_term_alone_has(self):
         rows = ["gen f<type,type>", "for f<?t,?t>", "for f<A,B<A>>", "for f<B<A>,A>"]
         self.check(((("base", 0),), False, False), rows, "A", "A")

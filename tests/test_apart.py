@@ -119,6 +119,12 @@ class TestRules(unittest.TestCase):
         self.good(*rows, "  const v = p<?t,()>.v")
         self.good("gen own<type,types>", "for own<?t,(?t,..?r)>", "for own<?t,(?x,..?r)>", "  const v = p<?x,(..?r)>.v")
 
+        # What is handed on beside such a list counts, too.
+        rows = ["gen own<type,type,types>", "for own<?t,?t,(..?r)>", "for own<?s,?u,(..?r)>"]
+        self.wrong(("own", "apart"), *rows, "  const v = p<?s,(?u,..?r)>.v")
+        self.good(*rows, "  const v = p<?s,(..?r)>.v+p<A,(?u,..?r)>.v")
+        self.wrong(("own", "apart"), *rows, "  const v = p<?s,(?u)>.v")
+
     def test_apart_with_definitions_that_no_view_has_together(self):
         rows = ["for f<?s,?u>", "  const v = f<?s,?u>.v"]
         self.wrong(("f", "apart"), *rows, more="for f<?t,?t>")

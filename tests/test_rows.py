@@ -149,6 +149,15 @@ class TestLeastNames(Rows):
         rows += ["for f<(?x,..?r),?c>", "  const v = 1", "inner gen g<pile>", "for f<(B<A>,..?r),?c>", "  const v = g<(..?r)>.v", "for g<()>", "  const v = 1", "for g<(..?r)>", "  const v = e<()>.v"]
         self.assertEqual(3, least_names(library(*[row.format("()") for row in rows]), 0))
 
+    def test_inner_uses_of_one_sort_that_need_more_and_fewer_names(self):
+        # All uses with P ask for g<B<A>>, and some for g<B<?x>> of their own, too.
+        for asked in ["g<B<A>>.v+g<?x>.v", "g<?x>.v+g<B<A>>.v", "g<B<A>>.v+g<?y>.v", "g<?y>.v+g<B<A>>.v+g<?x>.v"]:
+            given = library("gen f<type>", "inner gen g<type>", "for f<?t>", "  const v = 1", "for f<P<?x,?y>>", f"  const v = {asked}", "for g<?t>", "  const v = 1", "for g<B<?t>>", "  const w = 1")
+            self.bad(given, (1, "lacks"))
+            self.assertEqual(3, least_names(given, 0))
+        given = library("gen f<type>", "inner gen g<type>", "for f<?t>", "  const v = 1", "for f<P<?x,?y>>", "  const v = g<?x>.v+g<?y>.v", "for g<?t>", "  const v = 1", "for g<B<?t>>", "  const w = 1")
+        self.assertEqual(4, least_names(given, 0))
+
     def test_fewest_asks_and_fewest_names_belong_to_other_uses(self):
         rows = ["gen f<type>", "for f<P<P<A,A>,P<A,A>>>", "  const v = f<A>.w", "inner gen g<type>", "for f<?t>", "  const v = g<?t>.v", "for g<?t>", "  const v = f<?t>.u"]
         self.bad(library(*rows), (1, "lacks"))

@@ -77,6 +77,8 @@ class TestLooks(unittest.TestCase):
         pile = ["gen p<pile>", "gen l<types,type>", "for p<()>"]
         self.check(["?", "B<?>", "P<B<?>,?>"], "gen p<pile>", "for p<(P<B<?x>,?y>,..?r)>", "for p<(..?r)>", "  const v = p<(..?r)>.v")
         self.check(["(..?)", "(?,..?)", "(A,?,..?)", "?", "A"], *pile, "for l<(A,?x,..?r),?t>", "for l<(..?r),A>", "  const v = p<(..?r)>.v")
+        self.check(["(..?)", "?", "A", "P<?,A>", "P<A,?>", "P<A,A>"], "gen own<type,types>", "gen p<type,pile>", "for p<A,()>", "for own<P<A,?t>,(..?r)>", "for own<P<?s,A>,(..?r)>",
+                   "  const v = p<P<?s,A>,(..?r)>.v")
 
     def test_measure(self):
         for patterns, expected in [([], (1, 1)), (["#n"], (1, 1)), (["0"], (1, 1)), (["5"], (6, 1)), (["#n+4", "2"], (5, 1)), (["2*#n", "3*#n+1"], (2, 6)),

@@ -149,6 +149,12 @@ class TestOutcomes(unittest.TestCase):
         self.check(((("base", 0), ("base", 1), ("base", 2)), False, True), rows[:-1], "P<A,Zed>", "Zed")
         self.check(((("base", 2),), False, False), rows, "A", "A")
 
+    def test_definitions_that_no_use_has_together(self):
+        rows = ["gen f<type,type>", "for f<?t,?t>", "for f<B<?t>,?t>", "for f<?s,?t>"]
+        self.check(((("base", 0), ("base", 1), ("base", 2)), False, False), rows, "B<A>", "B<A>")
+        self.check(((("base", 0), ("base", 1)), True, False), rows[:-1], "B<A>", "B<A>")
+        self.check(((("base", 1), ("base", 2)), False, False), rows, "B<A>", "Zed")
+
     def test_sights_that_one_term_alone_has(self):
         rows = ["gen f<type,type>", "for f<?t,?t>", "for f<A,B<A>>", "for f<B<A>,A>"]
         self.check(((("base", 0),), False, False), rows, "A", "A")

@@ -340,6 +340,15 @@ class TestSize(unittest.TestCase):
         # Rests of piles do not count, nor do carried places.
         rows = ["gen f<type>", "for f<A>", *self.asking(25), "gen own<pile,type>", "for own<(T<?a,?b,?c>,..?r),?d>"]
         self.check(self.base(*rows), [("base",)], None)
+        rows = ["gen f<type>", "for f<A>", *self.asking(26), "gen own<pile,type>", "for own<(T<?a,?b,?c>,..?r),?d>"]
+        self.check(self.base(*rows), [("base",)], ("own", "size"))
+        # 10 * 10 * 10 * 10 * 2 are just not too many.
+        for many, expected in [(7, None), (8, ("own", "size"))]:
+            rows = ["gen f<type>", "for f<A>", *self.asking(many), "gen own<type,num>", "for own<T<T<?a,?b,?c>,?d,A>,#n>", "for own<?t,0>"]
+            library = Library(self.base(*rows), [("base",)])
+            self.assertEqual(expected, apart(library))
+            if expected is None:
+                self.assertEqual([10, 2], [len(sights(library, 0, kind)) for kind in ["type", "num"]])
 
 
 CALLS = [

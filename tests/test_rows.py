@@ -158,6 +158,15 @@ class TestLeastNames(Rows):
         given = library("gen f<type>", "inner gen g<type>", "for f<?t>", "  const v = 1", "for f<P<?x,?y>>", "  const v = g<?x>.v+g<?y>.v", "for g<?t>", "  const v = 1", "for g<B<?t>>", "  const w = 1")
         self.assertEqual(4, least_names(given, 0))
 
+    def test_lists_that_are_not_handed_on(self):
+        # Only behind lists of two items and more g is asked.
+        rows = ["gen f<types,type>", "inner gen g<type>", "for f<(),?t>", "  const v = 1", "for f<(?x),?t>", "  const v = 1", "for f<(..?r),?t>", "  const v = g<?t>.v", "for g<?t>", "  const v = 1", "for g<B<?t>>"]
+        self.assertEqual(4, least_names(library(*rows), 0))
+        self.assertEqual(4, least_names(library(*rows, "for f<(?x,?y,..?r),A>", "  const v = 1"), 0))
+        self.assertEqual(5, least_names(library(*rows, "for f<(?x,?y),?t>", "  const v = 1"), 0))
+        # Here f<(A,A),?t> has two choices.
+        self.assertEqual(3, least_names(library(*rows, "for f<(?x,?y),?t>", "  const v = 1", "for f<(A,A,..?r),?t>", "  const v = 1"), 0))
+
     def test_fewest_asks_and_fewest_names_belong_to_other_uses(self):
         rows = ["gen f<type>", "for f<P<P<A,A>,P<A,A>>>", "  const v = f<A>.w", "inner gen g<type>", "for f<?t>", "  const v = g<?t>.v", "for g<?t>", "  const v = f<?t>.u"]
         self.bad(library(*rows), (1, "lacks"))

@@ -32,6 +32,11 @@ class TestMatching(unittest.TestCase):
         self.assertEqual({"t": "P<A,B<A>>", "s": "Zed"}, found("B<?t>,?s", "B<P<A,B<A>>>,Zed", "type type"))
         self.assertIsNone(found("B<?t>", "A", "type"))
         self.assertIsNone(found("P<A,?t>", "P<B<A>,A>", "type"))
+        # In this stage one name may have other numbers of args in the pattern and in the use.
+        for one, other in [(A, type_of("A", A)), (type_of("B", A), type_of("B")), (type_of("B", ("var", "t")), type_of("B", A, A)), (type_of("P", A, ("var", "t")), type_of("P", A))]:
+            self.assertIsNone(matching((one,), (other,)))
+            self.assertIsNone(matching((("list", (one,), "r"),), (("list", (other,), None),)))
+            self.assertFalse(more_special((other,), (one,)))
 
     def test_variables_that_stand_again(self):
         self.assertEqual({"t": "B<A>"}, found("?t,B<?t>", "B<A>,B<B<A>>", "type type"))

@@ -246,6 +246,7 @@ class TestFourthLayer(Faults):
         self.check_unit(["for none<>", "  fun go(x) = 1", "  const v = go()"], [(4, "own")])
         self.check_unit(["for none<>", "  fun go(x) = 1", "  const v = go(1,2)"], [(4, "own")])
         self.check_unit(["for none<>", "  const go = 1", "  const v = go()"], [(4, "own")])
+        self.check_unit(["for none<>", "  fun to(x) = 1", "  const v = go(1)", "  fun up(x) = up(to(1))+to(up(2))+go(3)"], [(4, "own"), (5, "own")])
         self.check_unit(["for none<>", "  fun go(to) = to()"], [(3, "own")])
         self.check_unit(["for none<>", "  const v = if 1 then 2 else go(3)"], [(3, "own")])
 
@@ -258,6 +259,10 @@ class TestFourthLayer(Faults):
         self.check_unit(["for none<>", "  const v = go(1)", "  fun go(x) = v"], [])
         self.check_unit(["for none<>", "  fun go(v) = v", "  const v = go(w)", "  const w = 1"], [])
         self.check_unit(["for none<>", "  const v = none<>.v"], [])
+        # These constants have words that generics have, too.
+        self.check_unit(["for none<>", "  const none = none<>.none"], [])
+        self.check_unit(["for none<>", "  const one = two+1", "  const two = one<A>.v"], [])
+        self.check_unit(["for none<>", "  const one = two+1", "  const two = one<A>.v+one"], [(3, "round"), (4, "round")])
         self.check_unit(["for one<A>", "  const v = w", "  const w = 1", "for one<B<A>>", "  const w = v", "  const v = 1"], [])
         self.check_unit(["for none<>", "  const v = go(if 1 then w else 2)", "  fun go(x) = x", "  const w = one<A>.go(v)"],
                         [(3, "round"), (5, "round")])
@@ -292,6 +297,9 @@ class TestFourthLayer(Faults):
         self.check({"base": base}, {"main": "see base\nfor one<?x>\nfor none<>\nfor one<A>\nfor one<A>"},
                    [("main", 2, "twice"), ("main", 3, "twice"), ("main", 5, "twice")])
         self.check({"base": base + "\nfor one<?s>"}, {"main": "see base"}, [("base", 8, "twice")])
+        texts = {"base": base, "left": "see base\nfor one<B<?t>>", "right": "see base\nfor one<B<?s>>"}
+        self.check(texts, {"main": "see left\nsee right\nfor one<B<?q>>"}, [("main", 0, "twice"), ("main", 3, "twice")])
+        self.check(texts, {"main": "see left\nsee right\nfor one<A>\nfor one<B<?q>>\nfor one<B<?r>>"}, [("main", 0, "twice"), ("main", 4, "twice"), ("main", 5, "twice")])
         self.check({"base": base + "\nfor one<?s>"}, {"main": "see base\nfor one<?u>"}, [("base", 8, "twice"), ("main", 2, "twice")])
 
     def test_unlike_views(self):

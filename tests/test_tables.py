@@ -75,6 +75,8 @@ class TestMaking(unittest.TestCase):
                 self.assertEqual(tuple(rows), Table(NAMES, ["num"], rows).patterns)
             else:
                 self.refused(["num"], rows, InvalidPatterns)
+        for text in ["0,13", "13,0", "#n,13", "0,#n+13", "#n+13,#m", "13,#n+12"]:
+            self.refused(["num", "num"], [terms("1,1", "num num"), terms(text, "num num")], InvalidPatterns)
 
     def test_common_multiple(self):
         for texts, right in [(["3*#n", "4*#n"], True), (["5*#n", "3*#n"], False), (["12*#n", "6*#n", "4*#n"], True),

@@ -230,7 +230,7 @@ class TestLines(Texts):
     def test_wrong_lines(self):
         rows = """see|see |see Base|see if|see base more|see  base| see base|see base |See base|seebase|see 1|name A|name a 0|
             name A 4|name A -1|name A 00|name A  0|name A 0 |name A 0 1|name A x|name  A 0|name Abcdefghi 0|name|name A\t0|
-            gen one|gen one<|gen one>|gen one<>>|gen one<> |gen One<>|gen if<>|gen one<type,>|gen one<,type>|gen one<type, num>|
+            gen one|gen one<|gen one>|gen one<type|gen one<types|gen one<num,piles|gen one<type)|gen one<pile>>|gen one<>>|gen one<> |gen One<>|gen if<>|gen one<type,>|gen one<,type>|gen one<type, num>|
             gen one<Type>|gen one<types,type,num,pile,num>|gen one<type num>|gen  one<>|gen one <>|inner one<>|innergen one<>|
             inner gen one|inner  gen one<>|gen inner one<>|gen abcdefghi<>|gen one<?t>|gen one<kind>|gen <>|for one|for one<|for one<A|
             for one<A> |for One<A>|for if<A>|for one<A,>|for one<,A>|for one<A, A>|for one<a>|for one<A>.v|for one<1*#n>|for <A>|

@@ -21,6 +21,7 @@ ODD_VALUES = [
     ("type", ("A",), ()), ("type", "B", (3,)), ("type", "B", ([],)), ("type", "B", ()), ("type", "A", (("var", "t"),)),
     ("type", None, ()), ("num", 3), (("type", "A", ()), ("type", "B", (None,))), {"type": "A"}, [["type"], {"a": ()}],
     NAMES, InvalidWord("x"), ((((((((),),),),),),),), ("in", 0), ("in", True),
+    ("name", "t"), ("kind", "A", ()), ("lists", (), None), ("lists", (("type", "A", ()),), "r"), ("forms", 1, "n", 0),
 ]
 
 

@@ -256,7 +256,8 @@ class TestTrees(Covers):
                    ("list", "v0", ["in", 0], ("in", 1)), ("list", "v0", ("in", 1), ("in", 0)), ("list", None, *right[2:]),
                    ("list", ("v0",), *right[2:]), ("list", ["v0"], *right[2:]), ("list", "v0", ("in", 0), ("in", 0)),
                    ("list", "v0", ("in", 0)), ("list",), ("list", "v0", None, ("in", 1)), ("List", *right[1:]),
-                   ("list", "v0", (("in", 0), ("in", 1))), ("num", "v0", 1, 1, (("in", 0), ("in", 1)))]
+                   ("list", "v0", (("in", 0), ("in", 1))), ("num", "v0", 1, 1, (("in", 0), ("in", 1))),
+                   ("Num", "v0", 1, 1, (("in", 0), ("in", 1))), ("list", "v0", 1, 1, (("in", 0), ("in", 1)))]
         rows = [(right, True)] + [(value, False) for value in changed]
         self.trees("(..?r)", ["()", "(?x,..?r)"], "types", rows)
         self.trees("(?a,..?r)", ["(?a)", "(?a,?x,..?r)"], "types", [
@@ -275,7 +276,8 @@ class TestTrees(Covers):
         self.trees("#n", ["0", "2*#n+1", "2*#n+2"], "num", [(right, True)] + [(value, False) for value in changed])
         self.trees("#n", ["#m"], "num", [
             (("num", "v0", 0, 1, (("in", 0),)), True), (("num", "v0", 1, True, (("in", 0), ("in", 0))), False),
-            (("num", "v0", 2, 3, (("in", 0),) * 5), True), (("num", "v0", 0, 0, ()), False)])
+            (("num", "v0", 2, 3, (("in", 0),) * 5), True), (("num", "v0", 0, 0, ()), False),
+            (("num", "v0", -1, 1, ()), False), (("num", "v0", -1, 2, (("in", 0),)), False), (("Num", "v0", 0, 1, (("in", 0),)), False)])
 
     def test_within_one_another(self):
         within = ("num", "v0", 1, 1, (("in", 0), ("list", "v1", ("in", 1), ("in", 2))))

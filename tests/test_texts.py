@@ -68,6 +68,7 @@ class TestExpressions(Texts):
                 one<x>.v one<1+1>.v one.v x<y<z x=y=z x<y=z x==y x<=y x>y x&y x/y x+ +x x++y x-+y x** *x x- x< <x x= =x x+*y
                 1000000000000000000000001 10000000000000000000000000000000000000000000000000000 \u0663 #n\u0663 \u00e9
                 one<1000000000000000000000001>.v one<1000000000000000000000001*#n>.v one<#n+1000000000000000000000001>.v
+                one<A>vv one<A>,v one<A>+v one<>vv one<A>:go() one+A>.v one(A>.v one=A>.v one?A>.go(x) one)>.v
                 x%y {x} "x" x,y""".split():
             self.wrong_expression(text)
         for text in ["", " ", " x", "x ", "x + y", "x +y", "go (x)", "go(x, y)", "( x)", "one<A, A>.v", "one <A>.v", "# n", "x\t"]:
@@ -232,7 +233,7 @@ class TestLines(Texts):
             name A 4|name A -1|name A 00|name A  0|name A 0 |name A 0 1|name A x|name  A 0|name Abcdefghi 0|name|name A\t0|
             gen one|gen one<|gen one>|gen one<type|gen one<types|gen one<num,piles|gen one<type)|gen one<pile>>|gen one<>>|gen one<> |gen One<>|gen if<>|gen one<type,>|gen one<,type>|gen one<type, num>|
             gen one<Type>|gen one<types,type,num,pile,num>|gen one<type num>|gen  one<>|gen one <>|inner one<>|innergen one<>|
-            inner gen one|inner  gen one<>|gen inner one<>|gen abcdefghi<>|gen one<?t>|gen one<kind>|gen <>|for one|for one<|for one<A|
+            inner gen one|inner  gen one<>|gen inner one<>|gen abcdefghi<>|gen one<?t>|gen one<kind>|gen <>|for one|for one<|for one<A|for one(A>|for one+A>|for one?A>|
             for one<A> |for One<A>|for if<A>|for one<A,>|for one<,A>|for one<A, A>|for one<a>|for one<A>.v|for one<1*#n>|for <A>|
             for one<(A>|for one<A>>|for  one<A>|for one<01>|print|print |print x |print  x| print x|Print x|print x y|const v = 1|
             fun go() = 1|end|x|# x|-|gen one<type,num,types,pile,type>|for one<A B>|name A 3.|see é"""

@@ -36,7 +36,7 @@ class Lanes:
             definition = self.definitions[ask[0]]
             members = members_asked(definition)
             if ask[4:] == members[0] and self.goes_on(definition, sort):
-                found[(ask[0], (ask[1], members), *ask[2:])] = weight
+                found[lane_ask(ask, members)] = weight
         return found
 
     def inner_uses(self, sort, ask):
@@ -47,6 +47,11 @@ class Lanes:
 def base_sort(sort):
     """The sort of the uses alone."""
     return (sort[0][0], *sort[1:])
+
+
+def lane_ask(ask, members):
+    """What is asked, with all members for which it is asked."""
+    return (ask[0], (ask[1], members), *ask[2:])
 
 
 def base_ask(ask):

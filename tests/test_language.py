@@ -33,6 +33,48 @@ SAME_NAMES = [("instances", "instances", "roots"), ("sights", "term_of", "sight"
 METHODS_OF = {"Names": ["count_of"], "Table": ["__len__", "takers", "choice", "two_choices", "why_one", "further", "never"]}
 STATEMENTS = (ast.Assign, ast.AugAssign, ast.If, ast.While, ast.For, ast.Return, ast.Break, ast.Continue, ast.Pass, ast.Raise, ast.Delete,
               ast.Expr, ast.FunctionDef, ast.ClassDef, ast.ImportFrom)
+# What is iterated at once, by a call, and the builtins that may iterate it or a generator expression.
+AT_ONCE = ("zip", "enumerate", "range", "reversed")
+VIEWS = ("items", "keys", "values")
+TAKERS = ("list", "tuple", "dict", "sorted", "sum", "min", "max", "any", "all")
+
+
+def parents(tree):
+    """The node around each node of a tree."""
+    return {inner: node for node in ast.walk(tree) for inner in ast.iter_child_nodes(node)}
+
+
+def called(node):
+    """The name that a node calls, None if it calls none."""
+    return node.func.id if isinstance(node, ast.Call) and isinstance(node.func, ast.Name) else None
+
+
+def is_plain(node):
+    """Whether a node is a name, an attribute off a name, a literal, or a list or tuple of these: what a call may have behind a star."""
+    if isinstance(node, (ast.List, ast.Tuple)):
+        return all(is_plain(part) for part in node.elts)
+    return isinstance(node, (ast.Name, ast.Constant)) or isinstance(node, ast.Attribute) and isinstance(node.value, ast.Name)
+
+
+def wrong_stars(tree):
+    """The lines at which a star stands where none may stand, though Python takes it."""
+    found = []
+    for node in ast.walk(tree):
+        if isinstance(node, ast.Subscript):
+            inner = list(ast.walk(node.slice))
+            stars = [part for part in inner if isinstance(part, ast.Starred)]
+            stars.extend(part for part in inner if isinstance(part, ast.Dict) and None in part.keys)
+            found.extend(part.lineno for part in stars)
+        elif isinstance(node, ast.Set):
+            found.extend(part.lineno for part in node.elts if isinstance(part, ast.Starred))
+        elif isinstance(node, ast.Starred) and isinstance(node.value, ast.GeneratorExp):
+            found.append(node.lineno)
+        elif isinstance(node, ast.Call):
+            stars = [part.value for part in node.args if isinstance(part, ast.Starred)]
+            stars.extend(part.value for part in node.keywords if part.arg is None)
+            builtin = hasattr(builtins, called(node) or "") and called(node) not in ("min", "max", "zip")
+            found.extend(star.lineno for star in stars if builtin or not is_plain(star))
+    return found
 
 
 def targets(node):
@@ -185,6 +227,42 @@ class TestLanguage(unittest.TestCase):
                     self.assertNotIsInstance(node.iter, (ast.Set, ast.SetComp))
                 if isinstance(node, ast.Call) and isinstance(node.func, ast.Attribute) and node.func.attr in ("extend", "update"):
                     self.assertNotIsInstance(node.args[0], ast.GeneratorExp, (name, node.lineno))
+
+    def test_stars(self):
+        for name, tree in self.trees.items():
+            self.assertEqual([], wrong_stars(tree), name)
+
+    def test_wrong_stars_are_found(self):
+        for text in ["d[*a]", "d[(1, *a)] = 2", "d[1, *a]", "del d[(*a, 1)]", "d[f([*a])]", "d[0, (1, (*a, 2))]", "d[f(*a)]", "d[f({**a})]",
+                     "e[d[*a]]", "d[1:f([*a])]", "{*a}", "{1, *a}", "[*(x for x in a)]", "f(*[g(a)])", "f(*g(a))", "f(**g(a))", "list(*a)"]:
+            self.assertNotEqual([], wrong_stars(ast.parse(text)), text)
+        for text in ["[*a, 1]", "(*a, *b)", "{**a, 1: 2}", "f(*a)", "f(*[a.b, 1])", "f(**a)", "max(*a)", "d[f(a, b)] = (1, *a)", "a, *b = d[0]", "[*d[0]]"]:
+            self.assertEqual([], wrong_stars(ast.parse(text)), text)
+
+    def test_iterated_at_once(self):
+        for name, tree in self.trees.items():
+            around = parents(tree)
+            for node in ast.walk(tree):
+                view = isinstance(node, ast.Call) and isinstance(node.func, ast.Attribute) and node.func.attr in VIEWS
+                if view or called(node) in AT_ONCE:
+                    outer = around[node]
+                    loop = isinstance(outer, (ast.For, ast.comprehension)) and outer.iter is node
+                    self.assertTrue(loop or called(outer) in (*TAKERS, "enumerate", "zip"), (name, node.lineno))
+                if isinstance(node, ast.GeneratorExp):
+                    self.assertIn(called(around[node]), TAKERS, (name, node.lineno))
+                    self.assertEqual(([node], []), (around[node].args, around[node].keywords), (name, node.lineno))
+
+    def test_sets(self):
+        for name, tree in self.trees.items():
+            around = parents(tree)
+            for node in ast.walk(tree):
+                if isinstance(node, (ast.Set, ast.SetComp)) or called(node) in ("set", "frozenset"):
+                    outer = around[node]
+                    kept = isinstance(outer, ast.Assign) and isinstance(outer.targets[0], ast.Name)
+                    self.assertTrue(kept or called(outer) in ("sorted", "len"), (name, node.lineno))
+                    self.assertNotEqual("frozenset", called(node))
+                    if called(node) == "set" and node.args:
+                        self.assertNotIsInstance(node.args[0], (ast.GeneratorExp, ast.Set, ast.SetComp), (name, node.lineno))
 
     def test_interface(self):
         for name, words in INTERFACE.items():
